@@ -1,0 +1,179 @@
+"""A text's lexemes, and the marks that its columns lay among them."""
+
+from slumberway.errors import NoSign
+
+SMALL = "abcdefghijklmnopqrstuvwxyz"
+GREAT = "ABCDEFGHIJKLMNOPQRSTUVWXYZ"
+FIGURES = "0123456789"
+LONGEST = 8
+WORDS = ("data", "let", "in", "if", "then", "else", "case", "of", "fun")
+# Longer signs stand first: as many characters as go on make one lexeme.
+SIGNS = ("==", "->", "=", "|", "(", ")", "+", "-", "*", "<", "_")
+REMARK = "--"
+BLOCK_WORDS = ("let", "of")
+NEVER_ITEMS = ("in", "then", "else", "of", ")", "|")
+
+
+def lexemes(text):
+    """Tell the list of (place, sort, word) of a text; NoSign where no lexeme goes on."""
+    told = []
+    for number, row in enumerate(text, start=1):
+        told.extend(row_lexemes(number, row))
+    return told
+
+
+def row_lexemes(number, row):
+    """Tell the lexemes of one row."""
+    told = []
+    at = 0
+    while at < len(row) and not row.startswith(REMARK, at):
+        if row[at] == " ":
+            at += 1
+        else:
+            sort, end = lexeme_at(number, row, at)
+            told.append(((number, at + 1), sort, row[at:end]))
+            at = end
+    return told
+
+
+def lexeme_at(number, row, at):
+    """Tell the sort of the lexeme that begins at a spot of a row, and the spot behind it."""
+    first = row[at]
+    if first in SMALL:
+        end = run_end(row, at + 1, SMALL, at + LONGEST)
+        sort = "word" if row[at:end] in WORDS else "name"
+    elif first in GREAT:
+        end = run_end(row, at + 1, SMALL, at + LONGEST)
+        sort = "maker"
+    elif first in FIGURES:
+        end = at + 1 if first == "0" else run_end(row, at + 1, FIGURES, len(row))
+        sort = "number"
+    else:
+        return ("sign", sign_end(number, row, at))
+    if end < len(row) and row[end] in SMALL + GREAT + FIGURES:
+        raise NoSign((number, end + 1))
+    return (sort, end)
+
+
+def run_end(row, at, signs, most):
+    """Tell the first spot from at on, and no further than most, where none of the signs stands."""
+    while at < len(row) and at < most and row[at] in signs:
+        at += 1
+    return at
+
+
+def sign_end(number, row, at):
+    """Tell the spot behind the sign that begins at a spot of a row."""
+    for sign in SIGNS:
+        if row.startswith(sign, at):
+            return at + len(sign)
+    raise NoSign((number, at + 1))
+
+
+def laid(text):
+    """Tell the lexemes of a text with the marks among them; NoSign as lexemes."""
+    told = lexemes(text)
+    layout = Layout()
+    row = 0
+    for lexeme in told:
+        layout.take(lexeme, lexeme[0][0] > row)
+        row = lexeme[0][0]
+    layout.finish(end_place(told))
+    return layout.told
+
+
+def end_place(told):
+    """Tell the place of a text's end, by its lexemes."""
+    if not told:
+        return (1, 1)
+    (row, column), _, word = told[-1]
+    return (row, column + len(word))
+
+
+class Layout:
+    """The lexemes and marks of a text so far, and the blocks still open."""
+
+    def __init__(self):
+        self.told = []
+        # Of each block: its column, how many brackets were open at its begin, the place of its let or None.
+        # As ) shuts all within its bracket, these counts tell whether a bracket is open within a block.
+        self.blocks = []
+        self.brackets = 0
+        # The places of the lets that have had no in yet.
+        self.lets = []
+        self.awaits_block = True
+        self.owner = None
+
+    def take(self, lexeme, first_of_row):
+        """Add the next lexeme, behind the marks ahead of it."""
+        place, _, word = lexeme
+        begun = self.awaits_block and self.begin(place)
+        if first_of_row and not begun:
+            self.line_up(place, word)
+        if word == "in":
+            self.end_let(place)
+        elif word == ")":
+            self.close(place)
+        elif word == "(":
+            self.brackets += 1
+        elif word == "let":
+            self.lets.append(place)
+        self.told.append(lexeme)
+        self.awaits_block = word in BLOCK_WORDS
+        self.owner = place if word == "let" else None
+
+    def finish(self, place):
+        """Add the marks at the text's end."""
+        if not self.told:
+            self.begin(place)
+        while self.blocks:
+            self.shut(place)
+
+    def mark(self, place, word):
+        self.told.append((place, "mark", word))
+
+    def begin(self, place):
+        """Open a block at a place, or an empty one; tell whether it is still open."""
+        column = place[1]
+        innermost = self.blocks[-1][0] if self.blocks else 0
+        self.mark(place, "open")
+        if column <= innermost:
+            self.mark(place, "shut")
+            return False
+        self.blocks.append((column, self.brackets, self.owner))
+        return True
+
+    def shut(self, place):
+        """Shut the innermost block."""
+        self.blocks.pop()
+        self.mark(place, "shut")
+
+    def in_reach(self):
+        """Tell whether there is an innermost block, with no bracket open within it."""
+        return len(self.blocks) > 0 and self.blocks[-1][1] == self.brackets
+
+    def line_up(self, place, word):
+        """Add the marks that hang on the column of a row's first lexeme."""
+        column = place[1]
+        while self.in_reach() and self.blocks[-1][0] > column:
+            self.shut(place)
+        if self.in_reach() and self.blocks[-1][0] == column and word not in NEVER_ITEMS:
+            self.mark(place, "item")
+
+    def end_let(self, place):
+        """Give the last let without an in this one, and shut its block where that can be reached."""
+        if not self.lets:
+            return
+        owner = self.lets.pop()
+        if owner in [let for _, brackets, let in self.blocks if brackets == self.brackets]:
+            while self.blocks[-1][2] != owner:
+                self.shut(place)
+            self.shut(place)
+
+    def close(self, place):
+        """Shut all within the last bracket, and close it."""
+        if self.brackets == 0:
+            return
+        while self.in_reach():
+            self.shut(place)
+        self.brackets -= 1
