@@ -1,0 +1,217 @@
+"""The kinds of texts: what is demanded of them, their widest meeting, and where they can't meet."""
+
+from slumberway.demanding import Demanding, key_of, maker_shapes
+from slumberway.errors import Clash, Endless, NoAddress, NoName
+from slumberway.groups import groups
+from slumberway.looked import look
+from slumberway.meeting import Meeting, Table
+from slumberway.reader import tree_of
+
+# What stands in a tree's tuples, by the tuple's own word, or by what it is, and the number of the part.
+LEADS = {
+    ("def", 3): "equations",
+    ("rule", 2): "sides",
+    ("call", 2): "e",
+    ("call", 3): "es",
+    ("op", 3): "e",
+    ("op", 4): "e",
+    ("fun", 3): "e",
+    ("let", 2): "lines",
+    ("let", 3): "e",
+    ("if", 2): "e",
+    ("if", 3): "e",
+    ("if", 4): "e",
+    ("case", 2): "e",
+    ("case", 3): "choices",
+}
+# The same of what is alike in all of its parts.
+ROWS = {"lines": "line", "equations": "rule", "choices": "rule", "sides": "side", "es": "e", "side": "e"}
+
+
+def kinds(text):
+    """Tell a dict from a text's top names, sorted, to the texts of their widest kinds; Clash or Endless of a fault."""
+    judging = Judging(read(text))
+    judging.go_through()
+    return {name: judging.text(judging.tops[name], {}) for name in sorted(judging.tops)}
+
+
+def demands(text, name):
+    """Tell the demands of a top name's group, (place, one, other) with texts of kinds before anything is met."""
+    tree = read(text)
+    if name not in [line[2] for line in tree if line[0] == "def"]:
+        raise NoName(name)
+    judging = Judging(tree)
+    for group in judging.groups:
+        if name in [one[2] for one in group]:
+            break
+        judging.go_by(group)
+    found, _ = judging.demanding.group_demands(group)
+    blank = judging.blank()
+    names = {}
+    return [(place, blank.text(one, names), blank.text(other, names)) for place, one, other in found]
+
+
+def kind_at(text, address):
+    """Tell the text of the kind of an expression in a text's tree; NoAddress where none is there."""
+    tree = read(text)
+    judging = Judging(tree)
+    judging.go_through()
+    e = expression_at(tree, address)
+    names = {}
+    judging.text(judging.tops[tree[address[0]][2]], names)
+    return judging.text(judging.demanding.kinds[key_of(e)], names)
+
+
+def chain(text):
+    """Tell numbers of demands that can't all be met, though all but any one can; None of a text that has kinds."""
+    judging = faulty(text)
+    if judging is None:
+        return None
+    return least(judging.demands, judging.blank(), list(range(judging.fault + 1)), False)
+
+
+def chain_judged(text, numbers):
+    """Tell whether a thing is such a list as chain tells."""
+    judging = faulty(text)
+    if judging is None or not isinstance(numbers, list):
+        return False
+    last = -1
+    for number in numbers:
+        if not is_whole(number) or number <= last or number >= len(judging.demands):
+            return False
+        last = number
+    if with_demands(judging.blank(), judging.demands, numbers).whole:
+        return False
+    return none_to_spare(judging.demands, judging.blank(), numbers)
+
+
+def is_whole(thing):
+    return isinstance(thing, int) and not isinstance(thing, bool)
+
+
+def read(text):
+    """Tell the tree of a text, refused as looked_at does."""
+    tree = tree_of(text)
+    look(tree)
+    return tree
+
+
+def expression_at(tree, address):
+    """Tell the expression at an address of a tree."""
+    if not isinstance(address, tuple):
+        raise NoAddress(address)
+    role = "lines"
+    thing = tree
+    for number in address:
+        if not is_whole(number):
+            raise NoAddress(address)
+        form = thing[0] if role in ("line", "e") else role
+        if form in ROWS and 0 <= number < len(thing):
+            role = ROWS[form]
+        else:
+            role = LEADS.get((form, number))
+        if role is None or thing[number] is None:
+            raise NoAddress(address)
+        thing = thing[number]
+    if role != "e":
+        raise NoAddress(address)
+    return thing
+
+
+def faulty(text):
+    """Tell the judging of a text up to the group that is at fault; None of a text that has kinds."""
+    judging = Judging(read(text))
+    for group in judging.groups:
+        judging.meet_all(group)
+        if judging.fault is not None:
+            return judging
+    return None
+
+
+def with_demands(meeting, found, numbers):
+    """Tell a meeting of its own that has met some demands more, those of the numbers."""
+    told = meeting.twin()
+    for number in numbers:
+        _, one, other = found[number]
+        told.meet(one, other)
+    return told
+
+
+def least(found, meeting, numbers, is_new):
+    """Tell which of the numbers, none to spare, can't all be met behind what was met; of all of them that is so.
+
+    Where is_new, something was met since it was last asked whether these are needed at all. Calls within calls
+    halve the numbers, so there are few of them.
+    """
+    if is_new and not meeting.whole:
+        return []
+    if len(numbers) == 1:
+        return numbers
+    half = len(numbers) // 2
+    behind = least(found, with_demands(meeting, found, numbers[:half]), numbers[half:], True)
+    ahead = least(found, with_demands(meeting, found, behind), numbers[:half], len(behind) > 0)
+    return ahead + behind
+
+
+def none_to_spare(found, meeting, numbers):
+    """Tell whether all but any one of the numbers' demands can be met."""
+    # Of each of the pile, all numbers but those that are left over were met.
+    pile = [(meeting, numbers)]
+    while pile:
+        met, left = pile.pop()
+        if not met.whole:
+            return False
+        if len(left) > 1:
+            half = len(left) // 2
+            pile.append((with_demands(met, found, left[:half]), left[half:]))
+            pile.append((with_demands(met, found, left[half:]), left[:half]))
+    return True
+
+
+class Judging:
+    """The groups of a tree, and what was met of them so far."""
+
+    def __init__(self, tree):
+        self.groups = groups([line for line in tree if line[0] == "def"])
+        self.meeting = Meeting(Table(), {})
+        self.demanding = Demanding(self.meeting, maker_shapes(tree))
+        self.tops = self.demanding.tops
+        # The demands of the last group, and which of them can't be met.
+        self.demands = []
+        self.fault = None
+
+    def text(self, node, names):
+        return self.meeting.text(node, names)
+
+    def blank(self):
+        """Tell a meeting that has met nothing."""
+        return Meeting(self.meeting.table, {})
+
+    def go_through(self):
+        for group in self.groups:
+            self.go_by(group)
+
+    def meet_all(self, group):
+        """Meet the demands of a group, up to the first that can't be met."""
+        self.demands, found = self.demanding.group_demands(group)
+        self.tops.update(found)
+        for number, (_, one, other) in enumerate(self.demands):
+            self.meeting.meet(one, other)
+            if not self.meeting.whole:
+                self.fault = number
+                return
+
+    def go_by(self, group):
+        """Meet the demands of a group; Clash or Endless where they can't be met."""
+        self.meet_all(group)
+        if self.fault is None:
+            return
+        numbers = list(range(self.fault))
+        ahead = with_demands(self.blank(), self.demands, numbers)
+        place, one, other = self.demands[self.fault]
+        names = {}
+        one = ahead.text(one, names)
+        other = ahead.text(other, names)
+        if self.meeting.endless:
+            raise Endless(place, one, other)
+        raise Clash(place, one, other)
