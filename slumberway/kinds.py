@@ -1,11 +1,9 @@
 """The kinds of texts: what is demanded of them, their widest meeting, and where they can't meet."""
 
-from slumberway.demanding import Demanding, key_of, maker_shapes
-from slumberway.errors import Clash, Endless, NoAddress, NoName
-from slumberway.groups import groups
-from slumberway.looked import look
-from slumberway.meeting import Meeting, Table
-from slumberway.reader import tree_of
+from slumberway.coreforms import is_whole
+from slumberway.demanding import key_of
+from slumberway.errors import NoAddress, NoName
+from slumberway.judging import Judging, read, with_demands
 
 # What stands in a tree's tuples, by the tuple's own word, or by what it is, and the number of the part.
 LEADS = {
@@ -67,7 +65,7 @@ def chain(text):
     judging = faulty(text)
     if judging is None:
         return None
-    return least(judging.demands, judging.blank(), list(range(judging.fault + 1)), False)
+    return least(judging.demands, judging.blank(), list(range(judging.fault + 1)))
 
 
 def chain_judged(text, numbers):
@@ -83,17 +81,6 @@ def chain_judged(text, numbers):
     if with_demands(judging.blank(), judging.demands, numbers).whole:
         return False
     return none_to_spare(judging.demands, judging.blank(), numbers)
-
-
-def is_whole(thing):
-    return isinstance(thing, int) and not isinstance(thing, bool)
-
-
-def read(text):
-    """Tell the tree of a text, refused as looked_at does."""
-    tree = tree_of(text)
-    look(tree)
-    return tree
 
 
 def expression_at(tree, address):
@@ -128,28 +115,18 @@ def faulty(text):
     return None
 
 
-def with_demands(meeting, found, numbers):
-    """Tell a meeting of its own that has met some demands more, those of the numbers."""
-    told = meeting.twin()
-    for number in numbers:
-        _, one, other = found[number]
-        told.meet(one, other)
-    return told
-
-
-def least(found, meeting, numbers, is_new):
+def least(found, meeting, numbers):
     """Tell which of the numbers, none to spare, can't all be met behind what was met; of all of them that is so.
 
-    Where is_new, something was met since it was last asked whether these are needed at all. Calls within calls
-    halve the numbers, so there are few of them.
+    Calls within calls halve the numbers, so there are few of them.
     """
-    if is_new and not meeting.whole:
+    if not meeting.whole:
         return []
     if len(numbers) == 1:
         return numbers
     half = len(numbers) // 2
-    behind = least(found, with_demands(meeting, found, numbers[:half]), numbers[half:], True)
-    ahead = least(found, with_demands(meeting, found, behind), numbers[:half], len(behind) > 0)
+    behind = least(found, with_demands(meeting, found, numbers[:half]), numbers[half:])
+    ahead = least(found, with_demands(meeting, found, behind), numbers[:half])
     return ahead + behind
 
 
@@ -166,52 +143,3 @@ def none_to_spare(found, meeting, numbers):
             pile.append((with_demands(met, found, left[:half]), left[half:]))
             pile.append((with_demands(met, found, left[half:]), left[:half]))
     return True
-
-
-class Judging:
-    """The groups of a tree, and what was met of them so far."""
-
-    def __init__(self, tree):
-        self.groups = groups([line for line in tree if line[0] == "def"])
-        self.meeting = Meeting(Table(), {})
-        self.demanding = Demanding(self.meeting, maker_shapes(tree))
-        self.tops = self.demanding.tops
-        # The demands of the last group, and which of them can't be met.
-        self.demands = []
-        self.fault = None
-
-    def text(self, node, names):
-        return self.meeting.text(node, names)
-
-    def blank(self):
-        """Tell a meeting that has met nothing."""
-        return Meeting(self.meeting.table, {})
-
-    def go_through(self):
-        for group in self.groups:
-            self.go_by(group)
-
-    def meet_all(self, group):
-        """Meet the demands of a group, up to the first that can't be met."""
-        self.demands, found = self.demanding.group_demands(group)
-        self.tops.update(found)
-        for number, (_, one, other) in enumerate(self.demands):
-            self.meeting.meet(one, other)
-            if not self.meeting.whole:
-                self.fault = number
-                return
-
-    def go_by(self, group):
-        """Meet the demands of a group; Clash or Endless where they can't be met."""
-        self.meet_all(group)
-        if self.fault is None:
-            return
-        numbers = list(range(self.fault))
-        ahead = with_demands(self.blank(), self.demands, numbers)
-        place, one, other = self.demands[self.fault]
-        names = {}
-        one = ahead.text(one, names)
-        other = ahead.text(other, names)
-        if self.meeting.endless:
-            raise Endless(place, one, other)
-        raise Clash(place, one, other)

@@ -62,6 +62,12 @@ class Texts(unittest.TestCase):
         self.assertEqual(self.kind("data A a b = B (b -> a) Num | C", "f = B"), "(a -> b) -> Num -> A b a")
         self.assertEqual(self.kind("data A a b = B (b -> a) Num | C", "f = C"), "A a b")
 
+    def test_kinds_within_kinds_in_data(self):
+        self.assertEqual(self.kind(LIST, PAIR, "data A a = B (List (List a) -> Pair (List a) (Pair Num a))", "f = B"),
+                         "(List (List a) -> Pair (List a) (Pair Num a)) -> A a")
+        self.assertEqual(self.kind("data A a b = B (((b -> a) -> b) -> a -> b) | C", "f = B"),
+                         "(((a -> b) -> a) -> b -> a) -> A b a")
+
     def test_a_dict_sorted_new_and_again(self):
         text = ["z = 1", "a = 2", "m x = a", "data B = B"]
         told = kinds(text)
