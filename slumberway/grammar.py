@@ -1,57 +1,122 @@
 """The grammar of texts, as a table that the reader goes by.
 
-A rule's alternatives are tuples of symbols. A symbol is the name of a rule; a word that a lexeme or mark
-goes by; ("many", ..), as often as wanted; or ("maybe", ..), once or not. No alternative is empty or begins
-with "many" or "maybe", and no two of one rule begin with the same word: so the next lexeme tells which is meant.
+A reading is in a state, and frames around it are, each in the state in which it goes on behind what is within it.
+STEPS tells of a state and the word of a lexeme or mark the step, one of building's, and the next state. Where it
+tells none, and the frame may be closed in its state, the frame around it goes on instead. No word has a step in two
+states of which the frames in between may be closed: so the first that has one is meant.
 """
 
-RULES = {
-    "text": (("open", "line", ("many", "item", "line"), "shut"),),
-    "line": (("data line",), ("equation",)),
-    "data line": (("data", "maker", ("many", "name"), "=", "made", ("many", "|", "made")),),
-    "made": (("maker", ("many", "kindleaf")),),
-    "kind": (("kindcall", ("maybe", "->", "kind")),),
-    "kindcall": (("kind with parts",), ("small kind",)),
-    "kindleaf": (("kind without parts",), ("small kind",)),
-    "kind with parts": (("maker", ("many", "kindleaf")),),
-    "kind without parts": (("maker",),),
-    "small kind": (("name",), ("(", "kind", ")")),
-    "equation": (("name", ("many", "leaf"), "sides"),),
-    "sides": (("=", "expr"), ("guarded side", ("many", "guarded side"))),
-    "guarded side": (("|", "expr", "=", "expr"),),
-    "pattern": (("pattern with parts",), ("small pattern",)),
-    "leaf": (("pattern without parts",), ("small pattern",)),
-    "pattern with parts": (("maker", ("many", "leaf")),),
-    "pattern without parts": (("maker",),),
-    "small pattern": (("name",), ("_",), ("number",), ("(", "pattern", ")")),
-    "expr": (("function",), ("bound",), ("choosing",), ("choosing by cases",), ("comparing",)),
-    "function": (("fun", "name", ("many", "name"), "->", "expr"),),
-    "bound": (("let", "open", "equation", ("many", "item", "equation"), "shut", "in", "expr"),),
-    "choosing": (("if", "expr", "then", "expr", "else", "expr"),),
-    "choosing by cases": (("case", "expr", "of", "open", "choice", ("many", "item", "choice"), "shut"),),
-    "choice": (("pattern", "choice sides"),),
-    "choice sides": (("->", "expr"), ("guarded choice side", ("many", "guarded choice side"))),
-    "guarded choice side": (("|", "expr", "->", "expr"),),
-    "comparing": (("sum", ("maybe", "comparing sign", "sum")),),
-    "comparing sign": (("<",), ("==",)),
-    "sum": (("product", ("many", "sum sign", "product")),),
-    "sum sign": (("+",), ("-",)),
-    "product": (("call", ("many", "*", "call")),),
-    "call": (("atom", ("many", "atom")),),
-    "atom": (("name",), ("maker",), ("number",), ("(", "expr", ")")),
+STEPS = {
+    # text
+    ("text", "open"): ("begin line", "lines"),
+    ("lines", "item"): ("begin line", "lines"),
+    ("lines", "shut"): ("nothing", "text shut"),
+    ("text shut", "end"): ("nothing", "text end"),
+    ("line", "data"): ("begin placed", "data"),
+    ("line", "name"): ("begin placed word", "leaves"),
+    # data
+    ("data", "maker"): ("keep word", "letters"),
+    ("letters", "name"): ("keep placed word", "letters"),
+    ("letters", "="): ("end letters", "mades"),
+    ("mades", "|"): ("begin made", "mades"),
+    ("made", "maker"): ("begin placed word", "made kinds"),
+    ("made kinds", "name"): ("keep letter", "made kinds"),
+    ("made kinds", "maker"): ("keep bare kind", "made kinds"),
+    ("made kinds", "("): ("begin kind", "made kinds)"),
+    ("made kinds)", ")"): ("nothing", "made kinds"),
+    # kind, in brackets
+    ("kind", "name"): ("keep letter", "kind behind"),
+    ("kind", "maker"): ("begin kind parts", "kind behind"),
+    ("kind", "("): ("begin kind", "kind)"),
+    ("kind)", ")"): ("nothing", "kind behind"),
+    ("kind behind", "->"): ("keep place", "kind"),
+    ("kind parts", "name"): ("keep letter", "kind parts"),
+    ("kind parts", "maker"): ("keep bare kind", "kind parts"),
+    ("kind parts", "("): ("begin kind", "kind parts)"),
+    ("kind parts)", ")"): ("nothing", "kind parts"),
+    # equation
+    ("equation", "name"): ("begin placed word", "leaves"),
+    ("leaves", "name"): ("keep bind", "leaves"),
+    ("leaves", "_"): ("keep any", "leaves"),
+    ("leaves", "number"): ("keep number", "leaves"),
+    ("leaves", "maker"): ("keep bare made", "leaves"),
+    ("leaves", "("): ("begin pattern", "leaves)"),
+    ("leaves)", ")"): ("nothing", "leaves"),
+    ("leaves", "="): ("begin sides", "side"),
+    ("leaves", "|"): ("begin sides", "guard"),
+    ("guard", "="): ("begin expr", "guards"),
+    ("guards", "|"): ("begin expr", "guard"),
+    # pattern, in brackets
+    ("pattern", "name"): ("keep bind", "pattern)"),
+    ("pattern", "_"): ("keep any", "pattern)"),
+    ("pattern", "number"): ("keep number", "pattern)"),
+    ("pattern", "maker"): ("begin pattern parts", "pattern)"),
+    ("pattern", "("): ("begin pattern", "pattern in)"),
+    ("pattern in)", ")"): ("nothing", "pattern)"),
+    ("pattern parts", "name"): ("keep bind", "pattern parts"),
+    ("pattern parts", "_"): ("keep any", "pattern parts"),
+    ("pattern parts", "number"): ("keep number", "pattern parts"),
+    ("pattern parts", "maker"): ("keep bare made", "pattern parts"),
+    ("pattern parts", "("): ("begin pattern", "pattern parts)"),
+    ("pattern parts)", ")"): ("nothing", "pattern parts"),
+    # choice
+    ("choice", "name"): ("choose bind", "choice sides"),
+    ("choice", "_"): ("choose any", "choice sides"),
+    ("choice", "number"): ("choose number", "choice sides"),
+    ("choice", "maker"): ("choose made", "choice sides"),
+    ("choice", "("): ("choose bracket", "choice)"),
+    ("choice)", ")"): ("nothing", "choice sides"),
+    ("choice sides", "->"): ("begin expr", "choice side"),
+    ("choice sides", "|"): ("begin expr", "choice guard"),
+    ("choice guard", "->"): ("begin expr", "choice guards"),
+    ("choice guards", "|"): ("begin expr", "choice guard"),
+    # expr
+    ("expr", "name"): ("first atom", "atoms"),
+    ("expr", "maker"): ("first atom", "atoms"),
+    ("expr", "number"): ("first number", "atoms"),
+    ("expr", "("): ("first bracket", "atoms)"),
+    ("expr", "fun"): ("begin placed", "fun"),
+    ("expr", "let"): ("begin placed", "let"),
+    ("expr", "if"): ("begin asking", "if"),
+    ("expr", "case"): ("begin asking", "case"),
+    ("fun", "name"): ("keep placed word", "fun names"),
+    ("fun names", "name"): ("keep placed word", "fun names"),
+    ("fun names", "->"): ("begin expr", "fun body"),
+    ("let", "open"): ("begin equation", "let equations"),
+    ("let equations", "item"): ("begin equation", "let equations"),
+    ("let equations", "shut"): ("nothing", "let shut"),
+    ("let shut", "in"): ("begin expr", "let body"),
+    ("if", "then"): ("begin expr", "then"),
+    ("then", "else"): ("begin expr", "else"),
+    ("case", "of"): ("nothing", "of"),
+    ("of", "open"): ("begin choice", "choices"),
+    ("choices", "item"): ("begin choice", "choices"),
+    ("choices", "shut"): ("nothing", "case shut"),
+    # sums, products and calls: up to a < or ==, and behind it
+    ("atoms", "name"): ("keep atom", "atoms"),
+    ("atoms", "maker"): ("keep atom", "atoms"),
+    ("atoms", "number"): ("keep number", "atoms"),
+    ("atoms", "("): ("begin expr", "atoms)"),
+    ("atoms)", ")"): ("nothing", "atoms"),
+    ("atoms", "*"): ("keep sign", "operand"),
+    ("atoms", "+"): ("keep sign", "operand"),
+    ("atoms", "-"): ("keep sign", "operand"),
+    ("atoms", "<"): ("keep sign", "last operand"),
+    ("atoms", "=="): ("keep sign", "last operand"),
+    ("operand", "name"): ("operand atom", "atoms"),
+    ("operand", "maker"): ("operand atom", "atoms"),
+    ("operand", "number"): ("operand number", "atoms"),
+    ("operand", "("): ("operand bracket", "atoms)"),
+    ("last atoms", "name"): ("keep atom", "last atoms"),
+    ("last atoms", "maker"): ("keep atom", "last atoms"),
+    ("last atoms", "number"): ("keep number", "last atoms"),
+    ("last atoms", "("): ("begin expr", "last atoms)"),
+    ("last atoms)", ")"): ("nothing", "last atoms"),
+    ("last atoms", "*"): ("keep sign", "last operand"),
+    ("last atoms", "+"): ("keep sign", "last operand"),
+    ("last atoms", "-"): ("keep sign", "last operand"),
+    ("last operand", "name"): ("operand atom", "last atoms"),
+    ("last operand", "maker"): ("operand atom", "last atoms"),
+    ("last operand", "number"): ("operand number", "last atoms"),
+    ("last operand", "("): ("operand bracket", "last atoms)"),
 }
-
-
-def first_words(symbol):
-    """Tell the list of the words with which a rule may begin; of a word, itself."""
-    if symbol not in RULES:
-        return [symbol]
-    told = []
-    for alternative in RULES[symbol]:
-        told.extend(first_words(alternative[0]))
-    return told
-
-
-def all_first_words():
-    """Tell a dict from the rules to the words with which they may begin."""
-    return {rule: first_words(rule) for rule in RULES}

@@ -6,68 +6,96 @@ SMALL = "abcdefghijklmnopqrstuvwxyz"
 GREAT = "ABCDEFGHIJKLMNOPQRSTUVWXYZ"
 FIGURES = "0123456789"
 LONGEST = 8
-WORDS = ("data", "let", "in", "if", "then", "else", "case", "of", "fun")
-# Longer signs stand first: as many characters as go on make one lexeme.
-SIGNS = ("==", "->", "=", "|", "(", ")", "+", "-", "*", "<", "_")
 REMARK = "--"
+# The sorts of all words and signs, as they are written.
+SORTS = {
+    "data": "word", "let": "word", "in": "word", "if": "word", "then": "word", "else": "word", "case": "word",
+    "of": "word", "fun": "word", "==": "sign", "->": "sign", "=": "sign", "|": "sign", "(": "sign", ")": "sign",
+    "+": "sign", "-": "sign", "*": "sign", "<": "sign", "_": "sign",
+}
+LONG_SIGNS = ("==", "->")
 BLOCK_WORDS = ("let", "of")
 NEVER_ITEMS = ("in", "then", "else", "of", ")", "|")
+# Words that lay marks, open or close something, or have a block opened behind them.
+LAYING = {"let": True, "of": True, "in": True, "(": True, ")": True}
 
 
 def lexemes(text):
     """Tell the list of (place, sort, word) of a text; NoSign where no lexeme goes on."""
     told = []
     for number, row in enumerate(text, start=1):
-        told.extend(row_lexemes(number, row))
+        # Wherever it stands, a lexeme could begin there.
+        if REMARK in row:
+            row = row[:row.find(REMARK)]
+        column = 1
+        for piece in row.split(" "):
+            if piece:
+                sort = SORTS.get(piece) or sort_of(piece)
+                if sort is None:
+                    told.extend(piece_lexemes(number, column, piece))
+                else:
+                    told.append(((number, column), sort, piece))
+            column += len(piece) + 1
     return told
 
 
-def row_lexemes(number, row):
-    """Tell the lexemes of one row."""
+def piece_lexemes(number, column, piece):
+    """Tell the lexemes of what stands between two blanks."""
     told = []
     at = 0
-    while at < len(row) and not row.startswith(REMARK, at):
-        if row[at] == " ":
-            at += 1
-        else:
-            sort, end = lexeme_at(number, row, at)
-            told.append(((number, at + 1), sort, row[at:end]))
-            at = end
+    while at < len(piece):
+        sort, end = lexeme_at(number, column, piece, at)
+        told.append(((number, column + at), sort, piece[at:end]))
+        at = end
     return told
 
 
-def lexeme_at(number, row, at):
-    """Tell the sort of the lexeme that begins at a spot of a row, and the spot behind it."""
-    first = row[at]
+def sort_of(piece):
+    """Tell the sort of a name, maker or number; None of what isn't one and no more."""
+    if not piece.isascii():
+        return None
+    if piece.isalpha():
+        if len(piece) > LONGEST:
+            return None
+        if piece.islower():
+            return "name"
+        return "maker" if piece.istitle() else None
+    if piece.isdigit() and (piece[0] != "0" or piece == "0"):
+        return "number"
+    return None
+
+
+def lexeme_at(number, column, piece, at):
+    """Tell the sort of the lexeme that begins at a spot of a piece, and the spot behind it."""
+    first = piece[at]
     if first in SMALL:
-        end = run_end(row, at + 1, SMALL, at + LONGEST)
-        sort = "word" if row[at:end] in WORDS else "name"
+        end = run_end(piece, at + 1, SMALL, at + LONGEST)
+        sort = SORTS.get(piece[at:end], "name")
     elif first in GREAT:
-        end = run_end(row, at + 1, SMALL, at + LONGEST)
+        end = run_end(piece, at + 1, SMALL, at + LONGEST)
         sort = "maker"
     elif first in FIGURES:
-        end = at + 1 if first == "0" else run_end(row, at + 1, FIGURES, len(row))
+        end = at + 1 if first == "0" else run_end(piece, at + 1, FIGURES, len(piece))
         sort = "number"
     else:
-        return ("sign", sign_end(number, row, at))
-    if end < len(row) and row[end] in SMALL + GREAT + FIGURES:
-        raise NoSign((number, end + 1))
+        return ("sign", sign_end(number, column, piece, at))
+    if end < len(piece) and piece[end] in SMALL + GREAT + FIGURES:
+        raise NoSign((number, column + end))
     return (sort, end)
 
 
-def run_end(row, at, signs, most):
+def run_end(piece, at, signs, most):
     """Tell the first spot from at on, and no further than most, where none of the signs stands."""
-    while at < len(row) and at < most and row[at] in signs:
-        at += 1
-    return at
+    return min(len(piece) - len(piece[at:].lstrip(signs)), most)
 
 
-def sign_end(number, row, at):
-    """Tell the spot behind the sign that begins at a spot of a row."""
-    for sign in SIGNS:
-        if row.startswith(sign, at):
-            return at + len(sign)
-    raise NoSign((number, at + 1))
+def sign_end(number, column, piece, at):
+    """Tell the spot behind the sign that begins at a spot of a piece."""
+    if piece[at:at + 2] in LONG_SIGNS:
+        return at + 2
+    if piece[at] in SORTS:
+        return at + 1
+    raise NoSign((number, column + at))
 
 
 def laid(text):
@@ -76,8 +104,12 @@ def laid(text):
     layout = Layout()
     row = 0
     for lexeme in told:
-        layout.take(lexeme, lexeme[0][0] > row)
-        row = lexeme[0][0]
+        (number, _), _, word = lexeme
+        if number == row and word not in LAYING and not layout.awaits_block:
+            layout.told.append(lexeme)
+        else:
+            layout.take(lexeme, number > row)
+            row = number
     layout.finish(end_place(told))
     return layout.told
 

@@ -1,11 +1,11 @@
 """A text read to its tree, by the grammar."""
 
-from slumberway.building import BUILDERS
+from slumberway.building import ACTS, CLOSERS, joined
 from slumberway.errors import NoReading
-from slumberway.grammar import RULES, all_first_words
+from slumberway.grammar import STEPS
 from slumberway.lexemes import end_place, laid
 
-NAMED_BY_SORT = ("name", "maker", "number")
+NAMED_BY_SORT = {"name": True, "maker": True, "number": True}
 
 
 def tree_of(text):
@@ -13,97 +13,51 @@ def tree_of(text):
     told = laid(text)
     reading = Reading()
     for lexeme in told:
-        reading.take(lexeme)
-    end = end_place([lexeme for lexeme in told if lexeme[1] != "mark"])
-    reading.take((end, "mark", "end"))
-    return reading.tree()
+        _, sort, word = lexeme
+        if sort in NAMED_BY_SORT:
+            word = sort
+        step = STEPS.get((reading.state, word))
+        if step is None:
+            step = reading.step_around(word, lexeme[0])
+        name, reading.state = step
+        act = ACTS[name]
+        act(reading, lexeme)
+    if (reading.state, "end") not in STEPS:
+        reading.step_around("end", end_place([lexeme for lexeme in told if lexeme[1] != "mark"]))
+    return joined(reading.data)
 
 
-def grammar_word(lexeme):
-    """Tell by which word the grammar goes by a lexeme or mark."""
-    _, sort, word = lexeme
-    return sort if sort in NAMED_BY_SORT else word
+def wanted(states):
+    """Tell all words that have a step in some states, sorted."""
+    return sorted(set([word for state, word in STEPS if state in states]))
 
 
 class Reading:
-    """What of a text was read, and what is still to come.
-
-    It keeps piles of its own, as a tree may be deeper than Python's calls may be.
-    """
+    """What of a text was read. It keeps a pile of its own, as a tree may be deeper than Python's calls may be."""
 
     def __init__(self):
-        self.first_words = all_first_words()
-        # Symbols still to come, the next one last: a text may lack those that are tuples, but not the others.
-        # Tuples are "many" and "maybe" as in the grammar, and ("built", rule) behind all that a rule takes.
-        self.coming = ["end", "text"]
-        # Of each rule that is being read and has a builder, outermost first, its place and its parts so far.
-        self.begun = [((1, 1), [])]
+        self.state = "text"
+        self.data = []
+        # The states and data of the frames around, the innermost last.
+        self.pile = []
 
-    def tree(self):
-        """Tell the tree, when all of the text was taken."""
-        _, parts = self.begun[0]
-        return parts[0]
+    def begin(self, state, data):
+        """Begin a frame within the one that was gone on with so far."""
+        self.pile.append((self.state, self.data))
+        self.state = state
+        self.data = data
 
-    def firsts(self, symbol):
-        """Tell the words with which a symbol still to come may begin."""
-        if isinstance(symbol, str):
-            return self.first_words.get(symbol, [symbol])
-        if symbol[0] == "built":
-            return []
-        return self.firsts(symbol[1])
-
-    def may_come(self, word):
-        """Tell whether a word may come next, before anything that the text may lack is given up."""
-        for symbol in reversed(self.coming):
-            if word in self.firsts(symbol):
-                return True
-            if isinstance(symbol, str):
-                return False
-        return False
-
-    def wanted(self):
-        """Tell all words that may come next, sorted."""
-        told = []
-        for symbol in reversed(self.coming):
-            told.extend(self.firsts(symbol))
-            if isinstance(symbol, str):
-                break
-        return sorted(set(told))
-
-    def take(self, lexeme):
-        """Read the next lexeme or mark."""
-        place = lexeme[0]
-        word = grammar_word(lexeme)
-        if not self.may_come(word):
-            raise NoReading(place, self.wanted())
-        symbol = self.coming.pop()
-        while symbol != word:
-            self.go_into(symbol, word, place)
-            symbol = self.coming.pop()
-        self.begun[-1][1].append(lexeme)
-
-    def go_into(self, symbol, word, place):
-        """Lay out what a symbol stands for, where a word comes next."""
-        if isinstance(symbol, str):
-            self.begin(symbol, word, place)
-        elif symbol[0] == "built":
-            self.build(symbol[1])
-        elif word in self.firsts(symbol):
-            if symbol[0] == "many":
-                self.coming.append(symbol)
-            self.coming.extend(symbol[:0:-1])
-
-    def begin(self, rule, word, place):
-        """Begin a rule, with the alternative that begins with a word."""
-        if rule in BUILDERS:
-            self.begun.append((place, []))
-            self.coming.append(("built", rule))
-        for alternative in RULES[rule]:
-            if word in self.firsts(alternative[0]):
-                self.coming.extend(alternative[::-1])
-
-    def build(self, rule):
-        """Make one part of all that a rule took."""
-        place, parts = self.begun.pop()
-        builder = BUILDERS[rule]
-        self.begun[-1][1].append(builder(place, parts))
+    def step_around(self, word, place):
+        """Close frames up to one that goes on with a word, and tell its step."""
+        states = []
+        step = None
+        while step is None:
+            states.append(self.state)
+            if self.state not in CLOSERS:
+                raise NoReading(place, wanted(states))
+            close = CLOSERS[self.state]
+            told = close(self.data)
+            self.state, self.data = self.pile.pop()
+            self.data.append(told)
+            step = STEPS.get((self.state, word))
+        return step
