@@ -100,5 +100,5 @@ def parts_in(part):
     while pile:
         part = pile.pop()
         told.append(part)
-        pile.extend(reversed(parts_within(part)))
+        pile.extend(parts_within(part)[::-1])
     return told

@@ -27,7 +27,7 @@ def with_part(program, address, other):
     refuse(program)
     way = way_down(program, address)
     x, path = address
-    for part, number in zip(reversed(way[:-1]), reversed(path)):
+    for part, number in zip(way[-2::-1], path[::-1]):
         parts = parts_within(part)
         parts[number] = other
         other = with_parts(part, parts)

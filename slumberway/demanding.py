@@ -52,7 +52,7 @@ class Demanding:
         return (self.demands, kinds)
 
     def to_do(self, tasks):
-        self.pile.extend(reversed(tasks))
+        self.pile.extend(tasks[::-1])
 
     def kind(self, e):
         """Tell the kind of an expression that was gone by."""

@@ -50,13 +50,13 @@ class Making:
         """Tell the part of a top def."""
         self.to_do([("def", one, env)])
         while self.pile:
-            task = self.pile.pop()
-            step = STEPS[task[0]]
-            step(self, *task[1:])
+            word, *told = self.pile.pop()
+            step = STEPS[word]
+            step(self, *told)
         return self.done.pop()
 
     def to_do(self, tasks):
-        self.pile.extend(reversed(tasks))
+        self.pile.extend(tasks[::-1])
 
     def new_name(self, stem):
         """Make a name that is nowhere else."""
@@ -87,7 +87,8 @@ class Making:
         tasks = []
         for patterns, sides in rules:
             if matching.may_come():
-                inner = {**env, **matching.begin_rule(patterns, sides)}
+                bound = matching.begin_rule(patterns, sides)
+                inner = {**env, **bound}
                 tasks.extend([("e", e, inner) for side in sides for e in side if e is not None])
         self.to_do([*tasks, ("rules done", matching), *behind])
 

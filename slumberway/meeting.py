@@ -148,7 +148,7 @@ class Meeting:
             elif shape(made) in in_brackets:
                 pile.extend([(")", ()), (piece, ()), ("(", ())])
             else:
-                pile.extend(reversed(kind_pieces(made)))
+                pile.extend(kind_pieces(made)[::-1])
         return "".join(told)
 
 

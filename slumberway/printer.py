@@ -39,7 +39,7 @@ def printed(tree):
             page.mark(piece[1])
         else:
             pieces_of = PIECES[piece[0]]
-            pile.extend(reversed(pieces_of(piece)))
+            pile.extend(pieces_of(piece)[::-1])
     return page.rows
 
 

@@ -14,7 +14,7 @@ def all_patterns(patterns):
         pattern = pile.pop()
         told.append(pattern)
         if pattern[0] == "made":
-            pile.extend(reversed(pattern[3]))
+            pile.extend(pattern[3][::-1])
     return told
 
 
@@ -26,7 +26,7 @@ def all_kinds(kinds):
         kind = pile.pop()
         told.append(kind)
         if kind[0] == "kind":
-            pile.extend(reversed(kind[3]))
+            pile.extend(kind[3][::-1])
         elif kind[0] == "to":
             pile.extend([kind[3], kind[2]])
     return told
@@ -45,7 +45,7 @@ def steps(defs):
         told.append(step)
         if step[0] in WITHIN:
             steps_within = WITHIN[step[0]]
-            pile.extend(reversed(steps_within(step)))
+            pile.extend(steps_within(step)[::-1])
     return told
 
 
