@@ -14,6 +14,10 @@ from slumberway.lexemes import FIGURES
 def core_text(program):
     """Tell a program's text, that read_core reads to just that program."""
     refuse(program)
+    return told_text(program)
+
+
+def told_text(program):
     places, data, tops = program
     rows = [f"place {row} {column}" for row, column in places]
     for maker, lot in data.items():
@@ -93,7 +97,7 @@ def read_core(text):
     reader = CoreReader(text.split("\n"))
     program = reader.program()
     # What isn't the text of a program reads to none, or to one of another text.
-    if program_wrong(program) is not None or core_text(program) != text:
+    if program_wrong(program) is not None or told_text(program) != text:
         raise NoText(0, 0)
     return program
 
