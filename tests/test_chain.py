@@ -94,6 +94,13 @@ class Judged(unittest.TestCase):
                       [float(number) for number in good], {number: 1 for number in good}, iter(good)):
             self.assertIs(chain_judged(text, thing), False, thing)
 
+    def test_numbers_below_none(self):
+        text = ["f = if f then 1 else 2"]
+        self.assertEqual(chain(text), [0, 2])
+        self.assertIs(chain_judged(text, [-1, 0]), False)
+        self.assertIs(chain_judged(text, [0, -1]), False)
+        self.assertIs(chain_judged(text, [0, 3]), False)
+
     def test_truths_are_no_numbers(self):
         self.assertIs(chain_judged(["f = 1 + True"], [1]), True)
         self.assertIs(chain_judged(["f = 1 + True"], [True]), False)

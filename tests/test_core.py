@@ -267,7 +267,8 @@ class Programs(Agreeing):
         for rows, many in [(["f x = f x"], 2), (["f x = f (x + 1)"], 6), ([LIST, "f x = Cons x Nil"], 4),
                            ([LIST, "f x = Cons x"], 3), ([LIST, "f Nil = 1", "f (Cons _ _) = 2"], 7),
                            (["f x = case x + 1 of", "  2 -> x", "  _ -> 3"], 7), (["f x = case x of y -> y"], 2),
-                           (["f x = if x < 1 then 2 else x"], 7), (["f 1 2 = 3", "f x y = x"], 12)]:
+                           (["f x = if x < 1 then 2 else x"], 7), (["f 1 2 = 3", "f x y = x"], 12),
+                           (["f x = 1", "f y = 2"], 2), (["f = case 1 of x -> x"], 3)]:
             self.assertLessEqual(len(addresses(core(rows))), many, rows)
 
     def test_random_texts(self):

@@ -609,7 +609,9 @@ class Texts(unittest.TestCase):
                      "core 1 0 1 3\nplace 1 1\ntop f\nnum 0 01", "core 1 0 1 3\nplace 1 1\ntop f\ncon 0 Nil", "core a 0 0 0",
                      "core 1 0 1 3\nplace 1 1\ntop f\ncase 0 x none A 9", "core 1 0 1 4\nplace 1 1\ntop f\nnum 0 1\nnum 0 1",
                      "core 1 0 1 3\nplace 1 1\ntop f\ncall 0 num 0 1 num 0 1", "core 0 0 1 1\ntop f",
-                     "core 1 0 1 3\nplace 1 1\ntop f\ncase 0 x none -"):
+                     "core 1 0 1 3\nplace 1 1\ntop f\ncase 0 x none -",
+                     "core 1 0 1 3\nplace 1 1\ntop f\ncase 0 x none - 0", "core 2 0 0 1\nplace 1 1",
+                     "core 1 0 1 2\nplace 1 1\ntop f", "core 0 1 0 1\nplace 1 1"):
             refusal(self, NoText, read_core, text)
         told = read_core(core_text(FULL))
         told[0].clear()
