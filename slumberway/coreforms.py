@@ -1,6 +1,6 @@
 """The forms of a core's names, places and parts: each judged by itself, whatever stands within."""
 
-from slumberway.lexemes import GREAT, SMALL
+from slumberway.lexemes import GREAT
 
 # No tuple has more things; no word has more signs, but for a name's point and number; no number is as great.
 MOST_THINGS = 60
@@ -10,50 +10,38 @@ DEEDS = ("plus", "less", "times", "below", "same")
 
 
 def is_whole(thing):
-    return isinstance(thing, int) and not isinstance(thing, bool)
+    return isinstance(thing, int) and thing is not True and thing is not False
 
 
 def is_number(thing):
     """Tell whether a thing is a whole number from 0 on, of at most sixty figures."""
-    return is_whole(thing) and 0 <= thing < TOO_GREAT
-
-
-def is_place(thing):
-    """Tell whether a thing is a row and a column."""
-    if not isinstance(thing, tuple) or len(thing) != 2:
-        return False
-    row, column = thing
-    return is_number(row) and is_number(column) and row > 0 and column > 0
-
-
-def is_word(thing, firsts):
-    if not isinstance(thing, str) or not 0 < len(thing) <= MOST_SIGNS or thing[0] not in firsts:
-        return False
-    return thing.isascii() and thing.isalnum() and thing[1:] == thing[1:].lower()
-
-
-def is_place_number(thing, places):
-    return is_whole(thing) and 0 <= thing < places
+    return isinstance(thing, int) and 0 <= thing < TOO_GREAT and thing is not True and thing is not False
 
 
 def is_maker(thing):
-    return is_word(thing, GREAT)
+    """Tell whether a thing is a great letter, then small ones and figures."""
+    if not isinstance(thing, str) or not thing.isalnum() or not thing.isascii() or len(thing) > MOST_SIGNS:
+        return False
+    return thing[0] in GREAT and thing[1:] == thing[1:].lower()
 
 
 def is_plain_name(thing):
     """Tell whether a thing is a name without a point."""
-    return is_word(thing, SMALL)
+    return is_name(thing) and "." not in thing
 
 
 def is_name(thing):
-    if not isinstance(thing, str):
+    # A figure is less than any small letter.
+    if not isinstance(thing, str) or not thing.islower() or not thing.isascii() or thing[0] < "a":
         return False
-    stem, point, number = thing.partition(".")
-    if not is_plain_name(stem):
-        return False
-    if not point:
-        return True
-    return number.isascii() and number.isdigit() and number[0] != "0"
+    if thing.isalnum():
+        return len(thing) <= MOST_SIGNS
+    stem, _, number = thing.partition(".")
+    return stem.isalnum() and number.isdecimal() and number[0] != "0" and len(stem) <= MOST_SIGNS
+
+
+def is_place_number(thing, places):
+    return isinstance(thing, int) and 0 <= thing < places and thing is not True and thing is not False
 
 
 def is_row_of(thing, form):

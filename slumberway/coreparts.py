@@ -1,18 +1,37 @@
-"""What stands within the parts of a core: parts, the names that they bind, the names that they ask for."""
+"""What stands within the parts of a core: parts, the names that they bind, the names that they ask for.
+
+Of the words that are in no table here, a part has nothing of the sort within it.
+"""
 
 
 def bound_names(part):
     """Tell the list of the names that a part itself binds, from the left."""
-    word = part[0]
-    if word == "fun":
-        return list(part[2])
-    if word == "let":
-        return [name for name, _ in part[2]]
-    if word == "case":
-        return [part[3], *[name for _, names, _ in part[4] for name in names]]
-    if word == "early":
-        return [part[2]]
-    return []
+    if part[0] not in BOUND:
+        return []
+    bound = BOUND[part[0]]
+    return bound(part)
+
+
+def fun_names(part):
+    return list(part[2])
+
+
+def let_names(part):
+    return [name for name, _ in part[2]]
+
+
+def case_names(part):
+    told = [part[3]]
+    for _, names, _ in part[4]:
+        told.extend(names)
+    return told
+
+
+def early_names(part):
+    return [part[2]]
+
+
+BOUND = {"fun": fun_names, "let": let_names, "case": case_names, "early": early_names}
 
 
 def asked_names(part):
@@ -33,7 +52,48 @@ def atom_names(atoms):
 
 def parts_within(part):
     """Tell the list of the parts straight within a part, in the order of addresses."""
-    return [inner for inner, _ in scoped_within(part)]
+    if part[0] not in WITHIN:
+        return []
+    within = WITHIN[part[0]]
+    return within(part)
+
+
+def fun_parts(part):
+    return [part[3]]
+
+
+def let_parts(part):
+    return [*[e for _, e in part[2]], part[3]]
+
+
+def case_parts(part):
+    told = [part[2]]
+    told.extend([e for _, _, e in part[4]])
+    if part[5] is not None:
+        told.append(part[5])
+    return told
+
+
+def deed_parts(part):
+    return [part[3], part[4]]
+
+
+def early_parts(part):
+    return [part[3], part[5]]
+
+
+def now_parts(part):
+    return [part[4]]
+
+
+WITHIN = {
+    "fun": fun_parts,
+    "let": let_parts,
+    "case": case_parts,
+    "deed": deed_parts,
+    "early": early_parts,
+    "now": now_parts,
+}
 
 
 def scoped_within(part):
@@ -42,7 +102,7 @@ def scoped_within(part):
     if word == "fun":
         return [(part[3], part[2])]
     if word == "let":
-        names = bound_names(part)
+        names = let_names(part)
         return [*[(inner, names) for _, inner in part[2]], (part[3], names)]
     if word == "case":
         _, _, e, x, alternatives, other = part
@@ -51,13 +111,9 @@ def scoped_within(part):
         if other is not None:
             told.append((other, (x,)))
         return told
-    if word == "deed":
-        return [(part[3], ()), (part[4], ())]
     if word == "early":
         return [(part[3], ()), (part[5], (part[2],))]
-    if word == "now":
-        return [(part[4], ())]
-    return []
+    return [(inner, ()) for inner in parts_within(part)]
 
 
 def with_parts(part, parts):
@@ -88,8 +144,9 @@ def all_parts(part):
     while pile:
         path, part = pile.pop()
         told.append((path, part))
-        inner = parts_within(part)
-        pile.extend([((*path, number), inner[number]) for number in reversed(range(len(inner)))])
+        if part[0] in WITHIN:
+            inner = parts_within(part)
+            pile.extend([((*path, number), inner[number]) for number in reversed(range(len(inner)))])
     return told
 
 
@@ -100,5 +157,7 @@ def parts_in(part):
     while pile:
         part = pile.pop()
         told.append(part)
-        pile.extend(parts_within(part)[::-1])
+        if part[0] in WITHIN:
+            within = WITHIN[part[0]]
+            pile.extend(within(part)[::-1])
     return told

@@ -1,12 +1,14 @@
 """Programs: their addresses, their parts, and what is wrong with things that are none."""
 
-from slumberway.coreforms import is_part, is_place, is_plain_name, is_whole
-from slumberway.coreparts import all_parts, asked_names, bound_names, parts_within, scoped_within, with_parts
+from slumberway.coreforms import is_number, is_plain_name, is_whole
+from slumberway.corejudge import LONGEST_PATH, Judge
+from slumberway.coreparts import all_parts, asked_names, parts_within, scoped_within, with_parts
 from slumberway.errors import NoAddress, NoProgram
 
 MOST_PARTS = 4000
 MOST_TOPS = 60
-LONGEST_PATH = 200
+# Rows and columns of hardly any place are greater; what is not is a number for sure, where it is greater than a truth.
+FAR = 10 ** 6
 
 
 def addresses(program):
@@ -37,43 +39,47 @@ def with_part(program, address, other):
 
 def named(e):
     """Tell the sorted list of the names that stand free in a part."""
-    told = []
+    told = {}
+    # How many binders of a name stand around what is gone by.
     around = {}
-    pile = [("part", e)]
+    # Parts, and where names begin and end to stand around them, the next one last.
+    pile = [e]
     while pile:
-        word, thing = pile.pop()
-        if word == "part":
-            told.extend([name for name in asked_names(thing) if around.get(name, 0) == 0])
-            for inner, names in reversed(scoped_within(thing)):
-                pile.extend([("leave", names), ("part", inner), ("enter", names)])
-        else:
-            step = 1 if word == "enter" else -1
-            for name in thing:
+        part = pile.pop()
+        if part[0] == "around":
+            _, names, step = part
+            for name in names:
                 around[name] = around.get(name, 0) + step
-    return sorted(set(told))
+            continue
+        for name in asked_names(part):
+            if not around.get(name):
+                told[name] = True
+        for inner, names in scoped_within(part)[::-1]:
+            pile.extend([("around", names, -1), inner, ("around", names, 1)] if names else [inner])
+    return sorted(told)
 
 
 def program_wrong(thing):
     """Tell None of a program, of anything else the first that is wrong with it."""
     wrong = frame_wrong(thing)
-    if wrong is not None:
-        return wrong
-    places, data, tops = thing
-    judge = Judge(len(places), data, [x for x, _ in tops])
-    for x, e in tops:
-        wrong = judge.first_wrong(x, e)
-        if wrong is not None:
-            return wrong
-    if judge.count > MOST_PARTS or len(tops) > MOST_TOPS:
-        return ("great",)
-    return None
+    return wrong if wrong is not None else parts_wrong(thing, judge_of(thing))
 
 
 def refuse(program):
-    """Refuse what is no program."""
-    wrong = program_wrong(program)
+    """Refuse what is no program; tell the judge that went by all its parts."""
+    wrong = frame_wrong(program)
     if wrong is not None:
         raise NoProgram(wrong)
+    judge = judge_of(program)
+    wrong = parts_wrong(program, judge)
+    if wrong is not None:
+        raise NoProgram(wrong)
+    return judge
+
+
+def judge_of(program):
+    places, data, tops = program
+    return Judge(len(places), data, tops)
 
 
 def way_down(program, address):
@@ -100,9 +106,9 @@ def frame_wrong(thing):
     places, data, tops = thing
     if not isinstance(places, list) or not isinstance(data, dict) or not isinstance(tops, list):
         return ("program",)
-    for number, place in enumerate(places):
-        if not is_place(place):
-            return ("places", number)
+    wrong = places_wrong(places)
+    if wrong is not None:
+        return wrong
     seen = {}
     for number, top in enumerate(tops):
         if not isinstance(top, tuple) or len(top) != 2 or not is_plain_name(top[0]) or top[0] in seen:
@@ -111,62 +117,26 @@ def frame_wrong(thing):
     return None
 
 
-class Judge:
-    """Goes by the parts of a program's tops, in order, up to the first wrong one."""
-
-    def __init__(self, places, data, tops):
-        self.places = places
-        self.data = data
-        self.count = 0
-        # All names bound so far and the tops, and those of them that stand around the part gone by.
-        self.bound = {x: True for x in tops}
-        self.around = {x: True for x in tops}
-
-    def first_wrong(self, x, e):
-        """Tell what is wrong with a top's parts."""
-        pile = [("part", (), e)]
-        while pile:
-            word, path, thing = pile.pop()
-            if word == "enter":
-                self.around.update({name: True for name in thing})
-            elif word == "leave":
-                self.around.update({name: False for name in thing})
-            else:
-                why = self.why(path, thing)
-                if why is not None:
-                    return (why, (x, path))
-                self.count += 1
-                inner = scoped_within(thing)
-                for number in reversed(range(len(inner))):
-                    part, names = inner[number]
-                    step = ("part", (*path, number), part)
-                    pile.extend([("leave", (), names), step, ("enter", (), names)] if names else [step])
-        return None
-
-    def why(self, path, part):
-        """Tell the word of what is wrong with one part, and bind its names."""
-        if len(path) > LONGEST_PATH or not is_part(part, self.places):
-            return "part"
-        if not all([self.is_there(maker, many) for maker, many in makers_of(part)]):
-            return "maker"
-        for name in bound_names(part):
-            if name in self.bound:
-                return "twice"
-            self.bound[name] = True
-        if not all([self.around.get(name, False) for name in asked_names(part)]):
-            return "free"
-        return None
-
-    def is_there(self, maker, many):
-        """Tell whether the data has a maker with so many parts."""
-        lot = self.data.get(maker)
-        return isinstance(lot, tuple) and (maker, many) in lot
+def places_wrong(places):
+    """Tell the first of some places that is none."""
+    for number, place in enumerate(places):
+        if not isinstance(place, tuple) or len(place) != 2:
+            return ("places", number)
+        row, column = place
+        if not isinstance(row, int) or not 1 < row < FAR and not (is_number(row) and row > 0):
+            return ("places", number)
+        if not isinstance(column, int) or not 1 < column < FAR and not (is_number(column) and column > 0):
+            return ("places", number)
+    return None
 
 
-def makers_of(part):
-    """Tell the list of (maker, how many parts) of a part itself."""
-    if part[0] == "con":
-        return [(part[2], len(part[3]))]
-    if part[0] == "case":
-        return [(what, len(names)) for what, names, _ in part[4] if isinstance(what, str)]
-    return []
+def parts_wrong(program, judge):
+    """Tell what is wrong with a program's parts, where its frame is right."""
+    _, _, tops = program
+    for x, e in tops:
+        wrong = judge.wrong_in(e, LONGEST_PATH)
+        if wrong is not None:
+            return (wrong[0], (x, tuple(wrong[:0:-1])))
+    if judge.count + len(tops) > MOST_PARTS or len(tops) > MOST_TOPS:
+        return ("great",)
+    return None

@@ -5,10 +5,9 @@ it is no part; the parts within it stand in the rows behind, in the order of add
 """
 
 from slumberway.coreforms import is_maker
-from slumberway.coreparts import parts_in, with_parts
+from slumberway.corejudge import LONGEST_PATH
 from slumberway.cores import program_wrong, refuse
 from slumberway.errors import NoText
-from slumberway.lexemes import FIGURES
 
 
 def core_text(program):
@@ -25,71 +24,58 @@ def told_text(program):
         rows.append(" ".join(["lot", maker, *words]))
     for x, e in tops:
         rows.append(f"top {x}")
-        rows.extend([" ".join(part_words(part)) for part in parts_in(e)])
-    counts = [len(places), len(data), len(tops), len(rows)]
-    return "\n".join([" ".join(["core", *[str(count) for count in counts]]), *rows])
+        add_rows(e, rows)
+    return "\n".join([f"core {len(places)} {len(data)} {len(tops)} {len(rows)}", *rows])
 
 
-def part_words(part):
-    """Tell the words of a part's row."""
-    word, p = part[:2]
-    words_of = WORDS[word]
-    return [word, str(p), *words_of(part)]
+def add_rows(part, rows):
+    """Add the rows of a part and all within it."""
+    word, p, third = part[:3]
+    if word == "con":
+        rows.append(atoms_row(f"con {p} {third}", part[3]))
+    elif word == "call":
+        rows.append(atoms_row(f"call {p}", (third, *part[3])))
+    elif word == "deed":
+        rows.append(f"deed {p} {third}")
+        add_rows(part[3], rows)
+        add_rows(part[4], rows)
+    elif word == "case":
+        rows.append(case_row(part))
+        add_rows(third, rows)
+        for _, _, inner in part[4]:
+            add_rows(inner, rows)
+        if part[5] is not None:
+            add_rows(part[5], rows)
+    elif word == "let":
+        rows.append(" ".join([f"let {p}", *[name for name, _ in third]]))
+        for _, inner in third:
+            add_rows(inner, rows)
+        add_rows(part[3], rows)
+    elif word == "fun":
+        rows.append(" ".join([f"fun {p}", *third]))
+        add_rows(part[3], rows)
+    elif word == "early":
+        rows.append(f"early {p} {third} {part[4]}")
+        add_rows(part[3], rows)
+        add_rows(part[5], rows)
+    elif word == "now":
+        rows.append(f"now {p} {third} {part[3]}")
+        add_rows(part[4], rows)
+    else:
+        rows.append(f"{word} {p} {third}")
 
 
-def plain_words(part):
-    return [str(part[2])]
+def atoms_row(ahead, atoms):
+    return " ".join([ahead, *[f"{sort} {p} {worth}" for sort, p, worth in atoms]])
 
 
-def con_words(part):
-    return [part[2], *atom_words(part[3])]
-
-
-def call_words(part):
-    return atom_words((part[2], *part[3]))
-
-
-def atom_words(atoms):
-    return [word for sort, p, worth in atoms for word in (sort, str(p), str(worth))]
-
-
-def fun_words(part):
-    return list(part[2])
-
-
-def let_words(part):
-    return [name for name, _ in part[2]]
-
-
-def case_words(part):
-    _, _, _, x, alternatives, other = part
-    words = [x, "none" if other is None else "other"]
+def case_row(part):
+    _, p, _, x, alternatives, other = part
+    words = [f"case {p} {x}", "none" if other is None else "other"]
     for what, names, _ in alternatives:
-        words.extend([str(what), str(len(names)), *names])
-    return words
-
-
-def early_words(part):
-    return [part[2], str(part[4])]
-
-
-def now_words(part):
-    return [str(part[2]), part[3]]
-
-
-WORDS = {
-    "num": plain_words,
-    "name": plain_words,
-    "con": con_words,
-    "call": call_words,
-    "fun": fun_words,
-    "let": let_words,
-    "case": case_words,
-    "deed": plain_words,
-    "fault": plain_words,
-    "early": early_words,
-    "now": now_words,
-}
+        words.append(f"{what} {len(names)}")
+        words.extend(names)
+    return " ".join(words)
 
 
 def read_core(text):
@@ -107,152 +93,120 @@ class CoreReader:
 
     def __init__(self, rows):
         self.rows = rows
-        # The row that is read, its words, and the next of them.
-        self.row = -1
-        self.words = []
-        self.spot = 0
+        # The row that is read next.
+        self.row = 0
 
     def program(self):
         """Tell what the rows tell; NoText where they go on otherwise."""
-        self.next_row("core")
-        places, lots, tops, rows = [self.take_number(), self.take_number(), self.take_number(), self.take_number()]
-        if rows != len(self.rows) - 1:
+        words = self.next_row("core", 5)
+        places, lots, tops, many = [self.number(word) for word in words[1:5]]
+        if many != len(self.rows) - 1 or places + lots + tops > many:
             raise NoText(0, 0)
-        told = ([], {}, [])
-        for _ in range(places):
-            self.next_row("place")
-            told[0].append((self.take_number(), self.take_number()))
+        told = (self.places(places), {}, [])
         for _ in range(lots):
-            self.next_row("lot")
-            maker = self.take_word()
-            told[1][maker] = tuple([(self.take_word(), self.take_number()) for _ in range(len(self.words) // 2 - 1)])
+            words = self.next_row("lot", 2)
+            told[1][words[1]] = tuple([(words[at], self.number(words[at + 1])) for at in range(2, len(words) - 1, 2)])
         for _ in range(tops):
-            self.next_row("top")
-            x = self.take_word()
-            told[2].append((x, self.part()))
+            words = self.next_row("top", 2)
+            told[2].append((words[1], self.part(LONGEST_PATH)))
         return told
 
-    def next_row(self, word):
-        """Go on to the next row, which has to begin with a word."""
-        self.row += 1
-        self.words = self.rows[self.row].split(" ") if self.row < len(self.rows) else []
-        self.spot = 0
-        if self.take_word() != word:
+    def next_row(self, word, least):
+        """Tell the words of the next row, which has to begin with a word, and to have so many at least."""
+        words = self.rows[self.row].split(" ") if self.row < len(self.rows) else []
+        if len(words) < least or words[0] != word:
             raise NoText(self.row, 0)
-
-    def at_end(self):
-        return self.spot >= len(self.words)
-
-    def take_word(self):
-        """Tell the next word of the row."""
-        if self.at_end():
-            raise NoText(self.row, self.spot)
-        self.spot += 1
-        return self.words[self.spot - 1]
-
-    def take_number(self):
-        """Tell the next word of the row, which has to be a number."""
-        word = self.take_word()
-        if not is_number_word(word):
-            raise NoText(self.row, self.spot - 1)
-        return int(word)
-
-    def part(self):
-        """Tell the part of the next rows."""
-        done = []
-        # Of each part that is read, outermost first, itself with no parts in it, and how many are to come.
-        pile = []
-        while not done:
-            part, many = self.hollow()
-            pile.append((part, many, []))
-            while pile and len(pile[-1][2]) == pile[-1][1]:
-                part, _, parts = pile.pop()
-                whole = with_parts(part, parts)
-                (pile[-1][2] if pile else done).append(whole)
-        return done[0]
-
-    def hollow(self):
-        """Tell the part of the next row with None in the stead of all parts, and how many they are."""
         self.row += 1
-        self.words = self.rows[self.row].split(" ") if self.row < len(self.rows) else []
-        self.spot = 0
-        word = self.take_word()
-        if word not in READ:
+        return words
+
+    def places(self, many):
+        """Tell the places of the next rows."""
+        words = " ".join(self.rows[self.row:self.row + many]).split(" ") if many else []
+        self.row += many
+        if len(words) != 3 * many or words[0::3] != ["place"] * many:
+            raise NoText(self.row - 1, 0)
+        return [(self.number(row), self.number(column)) for row, column in zip(words[1::3], words[2::3])]
+
+    def number(self, word):
+        """Tell the number of a word of the row that was read last."""
+        try:
+            return int(word)
+        except ValueError:
+            raise NoText(self.row - 1, 0)
+
+    def part(self, left):
+        """Tell the part of the next rows; its path may have so many numbers more."""
+        words = self.rows[self.row].split(" ") if self.row < len(self.rows) else []
+        if len(words) < 3 or words[0] not in READ or left < 0:
             raise NoText(self.row, 0)
-        read = READ[word]
-        p = self.take_number()
-        return read(self, word, p)
+        self.row += 1
+        read = READ[words[0]]
+        return read(self, words, self.number(words[1]), left - 1)
 
-    def take_names(self):
-        """Tell all words that the row still has."""
-        return tuple([self.take_word() for _ in range(len(self.words) - self.spot)])
-
-    def atom(self):
-        sort = self.take_word()
-        return (sort, self.take_number(), self.take_number() if sort == "num" else self.take_word())
-
-    def atoms(self):
-        return tuple([self.atom() for _ in range((len(self.words) - self.spot) // 3)])
+    def atoms(self, words):
+        """Tell the atoms of words, three each."""
+        told = []
+        for at in range(0, len(words) - 2, 3):
+            sort, p, worth = words[at:at + 3]
+            told.append((sort, self.number(p), self.number(worth) if sort == "num" else worth))
+        return tuple(told)
 
 
-def is_number_word(word):
-    return word != "" and all([sign in FIGURES for sign in word]) and len(word) <= 60
+def read_num(reader, words, p, left):
+    return ("num", p, reader.number(words[2]))
 
 
-def read_num(reader, word, p):
-    return ((word, p, reader.take_number()), 0)
+def read_word(reader, words, p, left):
+    return (words[0], p, words[2])
 
 
-def read_word(reader, word, p):
-    return ((word, p, reader.take_word()), 0)
+def read_con(reader, words, p, left):
+    return ("con", p, words[2], reader.atoms(words[3:]))
 
 
-def read_con(reader, word, p):
-    return ((word, p, reader.take_word(), reader.atoms()), 0)
+def read_call(reader, words, p, left):
+    atoms = reader.atoms(words[2:])
+    return ("call", p, atoms[0] if atoms else (), atoms[1:])
 
 
-def read_call(reader, word, p):
-    return ((word, p, reader.atom(), reader.atoms()), 0)
+def read_fun(reader, words, p, left):
+    return ("fun", p, tuple(words[2:]), reader.part(left))
 
 
-def read_fun(reader, word, p):
-    return ((word, p, reader.take_names(), None), 1)
+def read_let(reader, words, p, left):
+    bindings = []
+    for name in words[2:]:
+        bindings.append((name, reader.part(left)))
+    return ("let", p, tuple(bindings), reader.part(left))
 
 
-def read_let(reader, word, p):
-    names = reader.take_names()
-    return ((word, p, tuple([(name, None) for name in names]), None), len(names) + 1)
-
-
-def read_case(reader, word, p):
-    x = reader.take_word()
-    other = reader.take_word()
+def read_case(reader, words, p, left):
+    heads = []
+    at = 4
+    while at < len(words) - 1:
+        behind = at + 2 + reader.number(words[at + 1])
+        what = words[at] if is_maker(words[at]) else reader.number(words[at])
+        heads.append((what, tuple(words[at + 2:behind])))
+        at = behind
+    e = reader.part(left)
     alternatives = []
-    while not reader.at_end():
-        what = reader.take_word()
-        names = tuple([reader.take_word() for _ in range(reader.take_number())])
-        alternatives.append((what if is_maker(what) else number_of(reader, what), names, None))
-    hollow = (word, p, None, x, tuple(alternatives), None if other == "none" else other)
-    return (hollow, 1 + len(alternatives) + (other != "none"))
+    for what, names in heads:
+        alternatives.append((what, names, reader.part(left)))
+    other = reader.part(left) if words[3:4] == ["other"] else None
+    return ("case", p, e, words[2], tuple(alternatives), other)
 
 
-def number_of(reader, word):
-    if not is_number_word(word):
-        raise NoText(reader.row, reader.spot)
-    return int(word)
+def read_deed(reader, words, p, left):
+    return ("deed", p, words[2], reader.part(left), reader.part(left))
 
 
-def read_deed(reader, word, p):
-    return ((word, p, reader.take_word(), None, None), 2)
+def read_early(reader, words, p, left):
+    q = reader.number(words[-1])
+    return ("early", p, words[2], reader.part(left), q, reader.part(left))
 
 
-def read_early(reader, word, p):
-    x = reader.take_word()
-    return ((word, p, x, None, reader.take_number(), None), 2)
-
-
-def read_now(reader, word, p):
-    return ((word, p, reader.take_number(), reader.take_word(), None), 1)
+def read_now(reader, words, p, left):
+    return ("now", p, reader.number(words[2]), words[-1], reader.part(left))
 
 
 READ = {
