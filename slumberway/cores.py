@@ -27,14 +27,19 @@ def part_at(program, address):
 def with_part(program, address, other):
     """Tell a program with another part, whatever it is, at an address."""
     refuse(program)
+    places, data, tops = program
+    return (list(places), dict(data), tops_with(program, address, other))
+
+
+def tops_with(program, address, other):
+    """Tell the list of a program's tops with another part at an address."""
     way = way_down(program, address)
     x, path = address
     for part, number in zip(way[-2::-1], path[::-1]):
         parts = parts_within(part)
         parts[number] = other
         other = with_parts(part, parts)
-    places, data, tops = program
-    return (list(places), dict(data), [(name, other if name == x else e) for name, e in tops])
+    return [(name, other if name == x else e) for name, e in program[2]]
 
 
 def named(e):

@@ -27,7 +27,11 @@ def all_used(used, name):
 
 def groups(defs):
     """Tell the list of the groups, in their order, each a list of its defs in the order of the text."""
-    used = used_names(defs)
+    return [[one for one in defs if one[2] in group] for group in grouped(used_names(defs))]
+
+
+def grouped(used):
+    """Tell the groups, in their order, lists of names, by a dict from all names to those that each uses."""
     reached = {name: all_used(used, name) for name in used}
     waiting = []
     for name in used:
@@ -40,7 +44,7 @@ def groups(defs):
         at = first_ready(waiting, used, there)
         group = waiting.pop(at)
         there.extend(group)
-        told.append([one for one in defs if one[2] in group])
+        told.append(group)
     return told
 
 

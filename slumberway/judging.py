@@ -15,6 +15,13 @@ def read(text):
     return tree
 
 
+def judged(tree):
+    """Tell the judging of a tree that was looked at; Clash or Endless of a fault."""
+    judging = Judging(tree)
+    judging.go_through()
+    return judging
+
+
 def with_demands(meeting, found, numbers):
     """Tell a meeting of its own that has met some demands more, those of the numbers."""
     told = meeting.twin()

@@ -3,7 +3,7 @@
 from slumberway.coreforms import is_whole
 from slumberway.demanding import key_of
 from slumberway.errors import NoAddress, NoName
-from slumberway.judging import Judging, read, with_demands
+from slumberway.judging import Judging, judged, read, with_demands
 
 # What stands in a tree's tuples, by the tuple's own word, or by what it is, and the number of the part.
 LEADS = {
@@ -28,8 +28,7 @@ ROWS = {"lines": "line", "equations": "rule", "choices": "rule", "sides": "side"
 
 def kinds(text):
     """Tell a dict from a text's top names, sorted, to the texts of their widest kinds; Clash or Endless of a fault."""
-    judging = Judging(read(text))
-    judging.go_through()
+    judging = judged(read(text))
     return {name: judging.text(judging.tops[name], {}) for name in sorted(judging.tops)}
 
 
@@ -52,8 +51,11 @@ def demands(text, name):
 def kind_at(text, address):
     """Tell the text of the kind of an expression in a text's tree; NoAddress where none is there."""
     tree = read(text)
-    judging = Judging(tree)
-    judging.go_through()
+    return kind_in(tree, judged(tree), address)
+
+
+def kind_in(tree, judging, address):
+    """Tell the text of a kind as kind_at does, of a tree that was judged."""
     e = expression_at(tree, address)
     names = {}
     judging.text(judging.tops[tree[address[0]][2]], names)

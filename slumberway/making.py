@@ -3,7 +3,7 @@
 It goes by a pile of what is still to do, and one of the parts that are done, as trees may be deep.
 """
 
-from slumberway.judging import Judging, read
+from slumberway.judging import judged, read
 from slumberway.lexemes import lexemes
 from slumberway.matching import Matching, stem_of
 
@@ -14,8 +14,12 @@ TRUTH_LOT = (("False", 0), ("True", 0))
 def core(text):
     """Tell the program of a text; refused as kinds is."""
     tree = read(text)
-    judging = Judging(tree)
-    judging.go_through()
+    judged(tree)
+    return core_of(text, tree)
+
+
+def core_of(text, tree):
+    """Tell the program of a text's tree that was judged."""
     places = [place for place, _, _ in lexemes(text)]
     data = lots(tree)
     making = Making(places, data)

@@ -65,6 +65,13 @@ class Meeting:
         """Demand that two kinds be the same; endless is set where only kinds without end could be."""
         if not self.whole:
             return
+        bound = self.united(one, other)
+        if self.whole and self.turns_back(bound):
+            self.whole = False
+            self.endless = True
+
+    def united(self, one, other):
+        """Make two kinds the same, where they can be, with or without an end; tell the letters bound by that."""
         bound = []
         pile = [(one, other)]
         while pile:
@@ -84,10 +91,8 @@ class Meeting:
                 pile.extend(list(zip(self.table.nodes[one][1], self.table.nodes[other][1])))
             else:
                 self.whole = False
-                return
-        if self.turns_back(bound):
-            self.whole = False
-            self.endless = True
+                return bound
+        return bound
 
     def same_form(self, one, other):
         word, parts = self.table.nodes[one]

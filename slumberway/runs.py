@@ -11,6 +11,8 @@ a tuple that holds the next one last.
 from slumberway.coreforms import TOO_GREAT
 
 LONG = ("long",)
+# The words of frames in which a thing is asked.
+ASKS = ("ask", "early", "now")
 # The way has no more asks.
 MOST_ASKS = 2000
 TRUTHS = {True: "True", False: "False"}
@@ -152,15 +154,19 @@ def way_of(stack):
     """Tell the asks that are being worked, outermost first."""
     told = []
     while stack is not None:
-        word = stack[0]
-        if word == "ask":
-            told.append((stack[1], stack[2]))
-        elif word == "early":
-            told.append((stack[1][4], stack[1][1]))
-        elif word == "now":
-            told.append((stack[1][1], stack[1][2]))
+        if stack[0] in ASKS:
+            told.append(ask_of(stack))
         stack = stack[-1]
     return tuple(told[::-1])
+
+
+def ask_of(frame):
+    """Tell the ask of a frame, as it is on the way."""
+    word = frame[0]
+    if word == "ask":
+        return (frame[1], frame[2])
+    part = frame[1]
+    return (part[4], part[1]) if word == "early" else (part[1], part[2])
 
 
 def fault_told(word, p, stack):

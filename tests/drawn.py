@@ -13,12 +13,14 @@ PLAIN = ("num", "num", "num", "truth", "list")
 
 class Drawer:
 
-    def __init__(self, chance, places=12, turned=True, odd=0.04):
+    def __init__(self, chance, places=12, turned=True, odd=0.04, wide=True):
         self.chance = chance
         self.places = places
-        # Whether earlies and nows are drawn, and how often what doesn't fit is.
+        # Whether earlies and nows are drawn, how often what doesn't fit is, and whether makers with parts that may
+        # make an answer very wide are.
         self.turned = turned
         self.odd = odd
+        self.wide = wide
         self.count = 0
 
     def program(self, tops):
@@ -99,7 +101,7 @@ class Drawer:
                 word = chance.choice(["below", "same"])
                 return ("deed", self.p(), word, self.part("num", scope, depth - 1), self.part("num", scope, depth - 1))
             return ("con", self.p(), chance.choice(["True", "False"]), ())
-        if chance.random() < 0.2:
+        if self.wide and chance.random() < 0.2:
             atoms = [self.atom(chance.choice(PLAIN), scope) for _ in range(3)]
             return ("con", self.p(), "Triple", tuple(atom or ("num", self.p(), 1) for atom in atoms))
         rest = self.atom("list", scope)

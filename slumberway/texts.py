@@ -1,0 +1,162 @@
+"""A text looked at once for all: whether it is refused, its kinds, its core, and its groups beside another text's."""
+
+from slumberway.cores import refuse
+from slumberway.errors import Clash, Counts, Endless, NoReading, NoSign, Parts, Twice, Unknown
+from slumberway.judging import judged, read
+from slumberway.kinds import kind_in
+from slumberway.lexemes import laid
+from slumberway.making import core_of
+from slumberway.rowmaking import made_rows
+from slumberway.turns import all_turned
+from slumberway.walks import all_patterns, free_names, steps
+
+
+class Text:
+    """A text, and all that was found of it so far."""
+
+    def __init__(self, rows):
+        self.text = rows
+        self.tree = None
+        self.judging = None
+        # What its refusal tells; None where it isn't refused.
+        self.refused = self.look()
+        # The core, and the core turned as far as it may be; each with its rows, where they were asked for.
+        self.programs = {}
+        self.row_lists = {}
+        self.group_list = None
+        self.is_right = False
+
+    def look(self):
+        """Tell what the text's refusal tells: the word of its class, then its fields."""
+        try:
+            self.tree = read(self.text)
+            self.judging = judged(self.tree)
+        except NoSign as error:
+            return ("NoSign", error.place)
+        except NoReading as error:
+            return ("NoReading", error.place, error.wants)
+        except Twice as error:
+            return ("Twice", error.later, error.earlier)
+        except Counts as error:
+            return ("Counts", error.place)
+        except Parts as error:
+            return ("Parts", error.place)
+        except Unknown as error:
+            return ("Unknown", error.place, error.word)
+        except Clash as error:
+            return ("Clash", error.place, error.one, error.other)
+        except Endless as error:
+            return ("Endless", error.place, error.one, error.other)
+        return None
+
+    def fault(self):
+        """Tell what the refusal tells, with a list of its own."""
+        if self.refused is not None and self.refused[0] == "NoReading":
+            return (*self.refused[:2], list(self.refused[2]))
+        return self.refused
+
+    def kinds(self):
+        """Tell a dict from the top names, sorted, to the texts of their kinds."""
+        judging = self.judging
+        return {name: judging.text(judging.tops[name], {}) for name in sorted(judging.tops)}
+
+    def kind_at(self, address):
+        return kind_in(self.tree, self.judging, address)
+
+    def program(self, is_turned):
+        """Tell the core, turned as far as it may be where that is asked for."""
+        if is_turned not in self.programs:
+            if is_turned:
+                told, _ = all_turned(self.program(False))
+            else:
+                told = core_of(self.text, self.tree)
+            self.programs[is_turned] = told
+        return self.programs[is_turned]
+
+    def right_program(self, is_turned):
+        """Tell the program that may be run; NoProgram where a core is beyond a program's bounds."""
+        if not self.is_right:
+            refuse(self.program(False))
+            self.is_right = True
+        return self.program(is_turned)
+
+    def row_list(self, is_turned):
+        """Tell the core's rows."""
+        if is_turned not in self.row_lists:
+            self.row_lists[is_turned] = made_rows(self.program(is_turned))
+        return self.row_lists[is_turned]
+
+    def groups(self):
+        """Tell the list of the groups, in order."""
+        if self.group_list is None:
+            pieces = def_pieces(self.text, self.tree)
+            tops = self.kinds()
+            self.group_list = [Group(defs, pieces, tops, self.judging) for defs in self.judging.groups]
+        return self.group_list
+
+
+def def_pieces(text, tree):
+    """Tell a dict from the places of a tree's lines to their lexemes and marks, but for places."""
+    begins = {line[1]: True for line in tree}
+    told = {}
+    pieces = []
+    for place, sort, word in laid(text):
+        if sort != "mark" and place in begins:
+            pieces = []
+            told[place] = pieces
+        pieces.append((sort, word))
+    # What stands behind a line's last lexeme is none of its own.
+    for pieces in list(told.values()):
+        while pieces[-1][0] == "mark":
+            pieces.pop()
+    return told
+
+
+class Group:
+    """A group of a text: what it is by its lexemes and marks, and by the kinds of what it uses."""
+
+    def __init__(self, defs, pieces, tops, judging):
+        self.names = sorted([one[2] for one in defs])
+        # From its names to their lexemes and marks.
+        self.defs = {one[2]: pieces[one[1]] for one in defs}
+        # From the names and makers that it uses to the texts of their kinds.
+        self.used = {}
+        for _, name in free_names(defs):
+            self.used[name] = tops[name]
+        for maker in used_makers(defs):
+            self.used[maker] = maker_text(judging, maker)
+
+    def is_same(self, other):
+        """Tell whether nothing changed by which a group is looked at anew."""
+        return self.defs == other.defs and self.used == other.used
+
+
+def used_makers(defs):
+    """Tell the list of the makers in some defs."""
+    told = []
+    for step in steps(defs):
+        if step[0] == "maker":
+            told.append(step[2])
+        elif step[0] == "rule":
+            told.extend([pattern[2] for pattern in all_patterns(step[2]) if pattern[0] == "made"])
+    return told
+
+
+def maker_text(judging, maker):
+    """Tell the text of a maker's kind."""
+    parts, whole = judging.demanding.maker_kinds(maker)
+    return judging.text(judging.demanding.table.leading(parts, whole), {})
+
+
+def settled_groups(text, last):
+    """Tell the names of the groups of a text that were looked at anew since the last one, None where there is none."""
+    groups = text.groups()
+    ahead = {}
+    if last is not None:
+        ahead = {tuple(group.names): group for group in last.groups()}
+    told = []
+    for group in groups:
+        key = tuple(group.names)
+        if key not in ahead or not group.is_same(ahead[key]):
+            told.append(list(group.names))
+    return told
