@@ -1,8 +1,10 @@
 """The demands of a group: pairs of kinds that must be the same, as its defs' expressions and patterns make them."""
 
+from slumberway.solving import NUM, TRUTH
 from slumberway.walks import binds
 
 NUMBERS = ("+", "-", "*")
+LEAVES = ("num", "name", "maker")
 
 
 def maker_shapes(tree):
@@ -24,12 +26,9 @@ def key_of(e):
 class Demanding:
     """The kinds and demands of groups, each made by the tops that are there already."""
 
-    def __init__(self, meeting, makers):
-        self.meeting = meeting
-        self.table = meeting.table
+    def __init__(self, solver, makers):
+        self.solver = solver
         self.makers = makers
-        self.number = self.table.made("Num", ())
-        self.truth = self.table.made("Truth", ())
         # The kinds of the tops of groups that are done, and of all expressions so far.
         self.tops = {}
         self.kinds = {}
@@ -54,6 +53,16 @@ class Demanding:
     def to_do(self, tasks):
         self.pile.extend(tasks[::-1])
 
+    def begin_parts(self, parts, behind):
+        """Lay out the parts of an expression, and what is to do behind them; what has no parts itself is done now."""
+        self.pile.extend(behind[::-1])
+        for e in parts[::-1]:
+            if e[0] in LEAVES:
+                step = STEPS[e[0]]
+                step(self, e)
+            else:
+                self.pile.append(e)
+
     def kind(self, e):
         """Tell the kind of an expression that was gone by."""
         return self.kinds[key_of(e)]
@@ -65,7 +74,7 @@ class Demanding:
         self.demands.append((place, one, other))
 
     def letters(self, many):
-        return [self.table.letter() for _ in range(many)]
+        return [self.solver.letter() for _ in range(many)]
 
     def bind(self, name, kind):
         self.names.setdefault(name, []).append(kind)
@@ -78,13 +87,13 @@ class Demanding:
         """Tell the kind of a name: its own, but anew of a top of another group."""
         if self.names.get(name):
             return self.names[name][-1]
-        return self.meeting.anew(self.tops[name])
+        return self.solver.anew(self.solver.pieces(self.tops[name]))
 
     def maker_kinds(self, maker):
         """Tell the kinds of a maker's parts and of its data, with letters of their own."""
         word, names, kinds = self.makers[maker]
-        letters = {name: self.table.letter() for name in names}
-        return ([self.told_kind(kind, letters) for kind in kinds], self.table.made(word, list(letters.values())))
+        letters = {name: self.solver.letter() for name in names}
+        return ([self.told_kind(kind, letters) for kind in kinds], self.solver.made(word, tuple(letters.values())))
 
     def told_kind(self, kind, letters):
         """Tell the kind that stands in a data."""
@@ -98,7 +107,7 @@ class Demanding:
             word, parts = ("->", kind[2:]) if kind[0] == "to" else kind[2:]
             if left:
                 at = len(made) - len(parts)
-                made[at:] = [self.table.made(word, made[at:])]
+                made[at:] = [self.solver.made(word, tuple(made[at:]))]
             else:
                 pile.append((kind, True))
                 pile.extend([(part, False) for part in reversed(parts)])
@@ -109,8 +118,8 @@ class Demanding:
         tasks = []
         for one in defs:
             letters = self.letters(len(one[3][0][1]))
-            side = self.table.letter()
-            self.bind(one[2], self.table.leading(letters, side))
+            side = self.solver.letter()
+            self.bind(one[2], self.solver.leading(letters, side))
             tasks.extend([("equation", equation, letters, side) for equation in one[3]])
         self.to_do([*tasks, *behind])
 
@@ -119,7 +128,7 @@ class Demanding:
         tasks = [("pattern", pattern, kind) for pattern, kind in zip(patterns, kinds)]
         for guard, side in sides:
             if guard is not None:
-                tasks.extend([guard, ("same", guard, self.truth)])
+                tasks.extend([guard, ("same", guard, TRUTH)])
             tasks.extend([side, ("same", side, side_kind)])
         self.to_do([*tasks, ("unbind", [name for _, name in binds(patterns)])])
 
@@ -134,7 +143,7 @@ def pattern_step(demanding, task):
     if pattern[0] == "bind":
         demanding.bind(pattern[2], kind)
     elif pattern[0] == "num":
-        demanding.demand(pattern[1], kind, demanding.number)
+        demanding.demand(pattern[1], kind, NUM)
     elif pattern[0] == "made":
         parts, whole = demanding.maker_kinds(pattern[2])
         tasks = [("pattern", part, part_kind) for part, part_kind in zip(pattern[3], parts)]
@@ -156,7 +165,7 @@ def unbind_step(demanding, task):
 
 
 def num_step(demanding, e):
-    demanding.keep(e, demanding.number)
+    demanding.keep(e, NUM)
 
 
 def name_step(demanding, e):
@@ -165,27 +174,27 @@ def name_step(demanding, e):
 
 def maker_step(demanding, e):
     parts, whole = demanding.maker_kinds(e[2])
-    demanding.keep(e, demanding.table.leading(parts, whole))
+    demanding.keep(e, demanding.solver.leading(parts, whole))
 
 
 def call_step(demanding, e):
-    demanding.to_do([e[2], *e[3], ("called", e)])
+    demanding.begin_parts((e[2], *e[3]), (("called", e),))
 
 
 def called_step(demanding, task):
     _, e = task
     kind = demanding.kind(e[2])
     for part in e[3]:
-        letter = demanding.table.letter()
-        demanding.demand(part[1], kind, demanding.table.leading([demanding.kind(part)], letter))
+        letter = demanding.solver.letter()
+        demanding.demand(part[1], kind, demanding.solver.leading([demanding.kind(part)], letter))
         kind = letter
     demanding.keep(e, kind)
 
 
 def op_step(demanding, e):
     _, _, sign, left, right = e
-    demanding.keep(e, demanding.number if sign in NUMBERS else demanding.truth)
-    demanding.to_do([left, right, ("same", left, demanding.number), ("same", right, demanding.number)])
+    demanding.keep(e, NUM if sign in NUMBERS else TRUTH)
+    demanding.begin_parts((left, right), (("same", left, NUM), ("same", right, NUM)))
 
 
 def fun_step(demanding, e):
@@ -198,7 +207,7 @@ def fun_step(demanding, e):
 
 def fun_done_step(demanding, task):
     _, e, letters = task
-    demanding.keep(e, demanding.table.leading(letters, demanding.kind(e[3])))
+    demanding.keep(e, demanding.solver.leading(letters, demanding.kind(e[3])))
 
 
 def let_step(demanding, e):
@@ -213,8 +222,7 @@ def as_step(demanding, task):
 
 def if_step(demanding, e):
     _, _, asked, one, other = e
-    tasks = [asked, one, other, ("same", asked, demanding.truth)]
-    demanding.to_do([*tasks, ("alike", other, one), ("as", e, one)])
+    demanding.begin_parts(e[2:], (("same", asked, TRUTH), ("alike", other, one), ("as", e, one)))
 
 
 def alike_step(demanding, task):
@@ -228,7 +236,7 @@ def case_step(demanding, e):
 
 def choices_step(demanding, task):
     _, e = task
-    letter = demanding.table.letter()
+    letter = demanding.solver.letter()
     demanding.keep(e, letter)
     thing = demanding.kind(e[2])
     demanding.to_do([("choice", choice, thing, letter) for choice in e[3]])

@@ -23,6 +23,8 @@ LAYING = {"let": True, "of": True, "in": True, "(": True, ")": True}
 def lexemes(text):
     """Tell the list of (place, sort, word) of a text; NoSign where no lexeme goes on."""
     told = []
+    # The sorts of all pieces so far that are one lexeme.
+    sorts = dict(SORTS)
     for number, row in enumerate(text, start=1):
         # Wherever it stands, a lexeme could begin there.
         if REMARK in row:
@@ -30,17 +32,34 @@ def lexemes(text):
         column = 1
         for piece in row.split(" "):
             if piece:
-                sort = SORTS.get(piece) or sort_of(piece)
+                sort = sorts.get(piece)
                 if sort is None:
-                    told.extend(piece_lexemes(number, column, piece))
+                    told.extend(piece_lexemes(number, column, piece, sorts))
                 else:
                     told.append(((number, column), sort, piece))
             column += len(piece) + 1
     return told
 
 
-def piece_lexemes(number, column, piece):
+def piece_lexemes(number, column, piece, sorts):
     """Tell the lexemes of what stands between two blanks."""
+    inner = piece.lstrip("(")
+    begin = column + len(piece) - len(inner)
+    told = [((number, at), "sign", "(") for at in range(column, begin)]
+    inner = inner.rstrip(")")
+    if inner:
+        sort = sorts.get(inner) or sort_of(inner)
+        if sort is None:
+            told.extend(mixed_lexemes(number, begin, inner))
+        else:
+            sorts[inner] = sort
+            told.append(((number, begin), sort, inner))
+    told.extend([((number, at), "sign", ")") for at in range(begin + len(inner), column + len(piece))])
+    return told
+
+
+def mixed_lexemes(number, column, piece):
+    """Tell the lexemes of what is not just one."""
     told = []
     at = 0
     while at < len(piece):

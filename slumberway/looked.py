@@ -1,6 +1,7 @@
 """A look at a text's tree: whether all that it names is there, once, and with as many parts as told."""
 
 from slumberway.errors import Counts, Parts, Twice, Unknown
+from slumberway.quick import quick_of
 from slumberway.reader import tree_of
 from slumberway.walks import all_kinds, all_patterns, free_names, steps
 
@@ -10,7 +11,9 @@ MAKERS_AHEAD = ("True", "False")
 
 def looked_at(text):
     """Tell None of a text, or refuse: NoSign, NoReading, Twice, Counts, Unknown, Parts, the first that is due."""
-    look(tree_of(text))
+    tree = tree_of(text)
+    if quick_of(tree, False) is None:
+        look(tree)
 
 
 def look(tree):

@@ -3,24 +3,28 @@
 It goes by a pile of what is still to do, and one of the parts that are done, as trees may be deep.
 """
 
-from slumberway.judging import judged, read
-from slumberway.lexemes import lexemes
+from slumberway.judging import judged
+from slumberway.lexemes import laid
 from slumberway.matching import Matching, stem_of
+from slumberway.reader import tree_of_laid
 
 DEEDS = {"+": "plus", "-": "less", "*": "times", "<": "below", "==": "same"}
 TRUTH_LOT = (("False", 0), ("True", 0))
+# Expressions that are handed over as they are.
+ATOMS = ("num", "name")
 
 
 def core(text):
     """Tell the program of a text; refused as kinds is."""
-    tree = read(text)
-    judged(tree)
-    return core_of(text, tree)
+    told = laid(text)
+    tree = tree_of_laid(told)
+    judged(tree, False)
+    return core_of(told, tree)
 
 
-def core_of(text, tree):
-    """Tell the program of a text's tree that was judged."""
-    places = [place for place, _, _ in lexemes(text)]
+def core_of(told, tree):
+    """Tell the program of a text's lexemes and marks, and of their tree, that was judged."""
+    places = [place for place, sort, _ in told if sort != "mark"]
     data = lots(tree)
     making = Making(places, data)
     defs = [line for line in tree if line[0] == "def"]
@@ -47,25 +51,28 @@ class Making:
         # Of each stem, the number of the last name made of it.
         self.names = {}
         self.done = []
-        # What is still to do, the next one last.
+        # What is still to do, the next one last: a word, and two things that hang on it.
         self.pile = []
 
     def top(self, one, env):
         """Tell the part of a top def."""
-        self.to_do([("def", one, env)])
-        while self.pile:
-            word, *told = self.pile.pop()
+        pile = self.pile
+        pile.append(("def", one, env))
+        while pile:
+            word, thing, other = pile.pop()
             step = STEPS[word]
-            step(self, *told)
+            step(self, thing, other)
         return self.done.pop()
 
-    def to_do(self, tasks):
-        self.pile.extend(tasks[::-1])
+    def to_do(self, parts, env):
+        """Lay out expressions that are to be done next, in order."""
+        self.pile.extend([(e[0], e, env) for e in parts[::-1]])
 
     def new_name(self, stem):
         """Make a name that is nowhere else."""
-        self.names[stem] = self.names.get(stem, 0) + 1
-        return f"{stem}.{self.names[stem]}"
+        number = self.names.get(stem, 0) + 1
+        self.names[stem] = number
+        return f"{stem}.{number}"
 
     def take(self, many):
         """Tell the parts that were done last, and take them away."""
@@ -82,35 +89,35 @@ class Making:
     def made(self, maker, atoms):
         """Tell the part of a maker with some atoms: a con, or where parts are lacking, a function of these."""
         p = self.numbers[maker[1]]
-        names = tuple([self.new_name("part") for _ in range(self.counts[maker[2]] - len(atoms))])
-        con = ("con", p, maker[2], (*atoms, *[("name", p, name) for name in names]))
-        return ("fun", p, names, con) if names else con
+        lacking = self.counts[maker[2]] - len(atoms)
+        if lacking == 0:
+            return ("con", p, maker[2], atoms)
+        names = tuple([self.new_name("part") for _ in range(lacking)])
+        return ("fun", p, names, ("con", p, maker[2], (*atoms, *[("name", p, name) for name in names])))
 
-    def begin_rules(self, matching, rules, env, behind):
-        """Lay out what is to do for rules, (patterns, sides), and behind them."""
+    def begin_rules(self, matching, rules, env):
+        """Lay out what is to do for rules, (patterns, sides)."""
+        self.pile.append(("rules done", matching, None))
         tasks = []
         for patterns, sides in rules:
             if matching.may_come():
                 bound = matching.begin_rule(patterns, sides)
-                inner = {**env, **bound}
-                tasks.extend([("e", e, inner) for side in sides for e in side if e is not None])
-        self.to_do([*tasks, ("rules done", matching), *behind])
-
-
-def is_atom(e):
-    return e[0] in ("num", "name")
+                inner = {**env, **bound} if bound else env
+                for side in sides:
+                    tasks.extend([(e[0], e, inner) for e in side if e is not None])
+        self.pile.extend(tasks[::-1])
 
 
 def def_step(making, one, env):
     _, place, _, equations = one
     p = making.numbers[place]
     names = tuple([making.new_name(stem_of(pattern)) for pattern in equations[0][1]])
-    rules = [(patterns, sides) for _, patterns, sides in equations]
-    behind = [("fun done", p, names)] if names else []
-    making.begin_rules(Matching(making, p, names, None), rules, env, behind)
+    if names:
+        making.pile.append(("fun done", p, names))
+    making.begin_rules(Matching(making, p, names, None), [equation[1:] for equation in equations], env)
 
 
-def rules_done_step(making, matching):
+def rules_done_step(making, matching, _):
     parts = making.take(sum([rule.many for rule in matching.rules]))
     making.done.append(matching.part(parts))
 
@@ -119,37 +126,35 @@ def fun_done_step(making, p, names):
     making.done.append(("fun", p, names, making.done.pop()))
 
 
-def e_step(making, e, env):
-    begin = BEGIN[e[0]]
-    begin(making, e, env)
-
-
-def begin_atom(making, e, env):
+def atom_step(making, e, env):
     making.done.append(making.atom(e, env))
 
 
-def begin_maker(making, e, env):
+def maker_step(making, e, env):
     making.done.append(making.made(e, ()))
 
 
-def begin_call(making, e, env):
+def call_step(making, e, env):
     _, _, function, told = e
-    found = [part for part in told if not is_atom(part)]
+    found = [part for part in told if part[0] not in ATOMS]
     if function[0] not in ("name", "maker"):
         found.append(function)
-    making.to_do([*[("e", part, env) for part in found], ("call done", e, env, len(found))])
+    making.pile.append(("call done", e, (env, len(found))))
+    if found:
+        making.to_do(found, env)
 
 
-def call_done_step(making, e, env, many):
+def call_done_step(making, e, behind):
     """Bind a call's parts that are no atoms, and call by names."""
+    env, many = behind
     _, place, function, told = e
     p = making.numbers[place]
-    parts = making.take(many)
+    parts = making.take(many) if many else []
     names = [making.new_name("thing") for _ in parts]
     bindings = tuple(zip(names, parts))
     atoms = []
     for part in told:
-        atoms.append(making.atom(part, env) if is_atom(part) else ("name", p, names.pop(0)))
+        atoms.append(making.atom(part, env) if part[0] in ATOMS else ("name", p, names.pop(0)))
     if function[0] == "maker":
         call = making.made(function, tuple(atoms))
     else:
@@ -158,25 +163,32 @@ def call_done_step(making, e, env, many):
     making.done.append(("let", p, bindings, call) if bindings else call)
 
 
-def begin_op(making, e, env):
-    making.to_do([("e", e[3], env), ("e", e[4], env), ("op done", e)])
+def op_step(making, e, env):
+    _, _, _, one, other = e
+    if one[0] in ATOMS and other[0] in ATOMS:
+        making.done.extend([making.atom(one, env), making.atom(other, env)])
+        op_done_step(making, e, env)
+    else:
+        making.pile.extend([("op done", e, env), (other[0], other, env), (one[0], one, env)])
 
 
-def op_done_step(making, e):
-    one, other = making.take(2)
+def op_done_step(making, e, env):
+    other, one = making.done.pop(), making.done.pop()
     making.done.append(("deed", making.numbers[e[1]], DEEDS[e[2]], one, other))
 
 
-def begin_fun(making, e, env):
+def fun_step(making, e, env):
     names = tuple([making.new_name(name) for _, name in e[2]])
     inner = {**env, **{name: told for (_, name), told in zip(e[2], names)}}
-    making.to_do([("e", e[3], inner), ("fun done", making.numbers[e[1]], names)])
+    making.pile.append(("fun done", making.numbers[e[1]], names))
+    making.to_do((e[3],), inner)
 
 
-def begin_let(making, e, env):
+def let_step(making, e, env):
     names = [making.new_name(one[2]) for one in e[2]]
     inner = {**env, **{one[2]: told for one, told in zip(e[2], names)}}
-    making.to_do([*[("def", one, inner) for one in e[2]], ("e", e[3], inner), ("let done", e, names)])
+    making.pile.append(("let done", e, names))
+    making.to_do((*e[2], e[3]), inner)
 
 
 def let_done_step(making, e, names):
@@ -184,18 +196,20 @@ def let_done_step(making, e, names):
     making.done.append(("let", making.numbers[e[1]], tuple(zip(names, parts)), inner))
 
 
-def begin_if(making, e, env):
-    making.to_do([("e", e[2], env), ("e", e[3], env), ("e", e[4], env), ("if done", e)])
+def if_step(making, e, env):
+    making.pile.append(("if done", e, None))
+    making.to_do(e[2:], env)
 
 
-def if_done_step(making, e):
+def if_done_step(making, e, _):
     asked, one, other = making.take(3)
     alternatives = (("True", (), one), ("False", (), other))
     making.done.append(("case", making.numbers[e[1]], asked, making.new_name("head"), alternatives, None))
 
 
-def begin_case(making, e, env):
-    making.to_do([("e", e[2], env), ("choices", e, env)])
+def case_step(making, e, env):
+    making.pile.append(("choices", e, env))
+    making.to_do((e[2],), env)
 
 
 def choices_step(making, e, env):
@@ -211,12 +225,21 @@ def choices_step(making, e, env):
         x = making.new_name(stem_of(choices[0][1]))
         matching = Matching(making, p, (x,), None)
         matching.bind(x, asked)
-    making.begin_rules(matching, [((pattern,), sides) for _, pattern, sides in choices], env, [])
+    making.begin_rules(matching, [((pattern,), sides) for _, pattern, sides in choices], env)
 
 
+# The words of expressions and defs, and of what is done behind their parts.
 STEPS = {
     "def": def_step,
-    "e": e_step,
+    "num": atom_step,
+    "name": atom_step,
+    "maker": maker_step,
+    "call": call_step,
+    "op": op_step,
+    "fun": fun_step,
+    "let": let_step,
+    "if": if_step,
+    "case": case_step,
     "rules done": rules_done_step,
     "fun done": fun_done_step,
     "call done": call_done_step,
@@ -224,15 +247,4 @@ STEPS = {
     "let done": let_done_step,
     "if done": if_done_step,
     "choices": choices_step,
-}
-BEGIN = {
-    "num": begin_atom,
-    "name": begin_atom,
-    "maker": begin_maker,
-    "call": begin_call,
-    "op": begin_op,
-    "fun": begin_fun,
-    "let": begin_let,
-    "if": begin_if,
-    "case": begin_case,
 }

@@ -5,23 +5,26 @@ from slumberway.errors import NoReading
 from slumberway.grammar import STEPS
 from slumberway.lexemes import end_place, laid
 
-NAMED_BY_SORT = {"name": True, "maker": True, "number": True}
-
 
 def tree_of(text):
     """Tell the tree of a text; NoSign as lexemes, NoReading where the grammar doesn't go on."""
-    told = laid(text)
+    return tree_of_laid(laid(text))
+
+
+def tree_of_laid(told):
+    """Tell the tree of a text's lexemes and marks."""
     reading = Reading()
     for lexeme in told:
         _, sort, word = lexeme
-        if sort in NAMED_BY_SORT:
+        if sort == "name" or sort == "maker" or sort == "number":
             word = sort
         step = STEPS.get((reading.state, word))
         if step is None:
             step = reading.step_around(word, lexeme[0])
         name, reading.state = step
-        act = ACTS[name]
-        act(reading, lexeme)
+        if name != "nothing":
+            act = ACTS[name]
+            act(reading, lexeme)
     if (reading.state, "end") not in STEPS:
         reading.step_around("end", end_place([lexeme for lexeme in told if lexeme[1] != "mark"]))
     return joined(reading.data)

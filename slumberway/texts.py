@@ -2,10 +2,11 @@
 
 from slumberway.cores import refuse
 from slumberway.errors import Clash, Counts, Endless, NoReading, NoSign, Parts, Twice, Unknown
-from slumberway.judging import judged, read
-from slumberway.kinds import kind_in
+from slumberway.judging import judged
+from slumberway.kinds import kind_in, kind_texts
 from slumberway.lexemes import laid
 from slumberway.making import core_of
+from slumberway.reader import tree_of_laid
 from slumberway.rowmaking import made_rows
 from slumberway.turns import all_turned
 from slumberway.walks import all_patterns, free_names, steps
@@ -16,8 +17,11 @@ class Text:
 
     def __init__(self, rows):
         self.text = rows
+        self.laid = []
         self.tree = None
         self.judging = None
+        # The same with the kinds of all expressions, where they were asked for.
+        self.kept = None
         # What its refusal tells; None where it isn't refused.
         self.refused = self.look()
         # The core, and the core turned as far as it may be; each with its rows, where they were asked for.
@@ -29,8 +33,9 @@ class Text:
     def look(self):
         """Tell what the text's refusal tells: the word of its class, then its fields."""
         try:
-            self.tree = read(self.text)
-            self.judging = judged(self.tree)
+            self.laid = laid(self.text)
+            self.tree = tree_of_laid(self.laid)
+            self.judging = judged(self.tree, False)
         except NoSign as error:
             return ("NoSign", error.place)
         except NoReading as error:
@@ -57,11 +62,12 @@ class Text:
 
     def kinds(self):
         """Tell a dict from the top names, sorted, to the texts of their kinds."""
-        judging = self.judging
-        return {name: judging.text(judging.tops[name], {}) for name in sorted(judging.tops)}
+        return kind_texts(self.judging)
 
     def kind_at(self, address):
-        return kind_in(self.tree, self.judging, address)
+        if self.kept is None:
+            self.kept = judged(self.tree, True)
+        return kind_in(self.tree, self.kept, address)
 
     def program(self, is_turned):
         """Tell the core, turned as far as it may be where that is asked for."""
@@ -69,7 +75,7 @@ class Text:
             if is_turned:
                 told, _ = all_turned(self.program(False))
             else:
-                told = core_of(self.text, self.tree)
+                told = core_of(self.laid, self.tree)
             self.programs[is_turned] = told
         return self.programs[is_turned]
 
@@ -89,18 +95,18 @@ class Text:
     def groups(self):
         """Tell the list of the groups, in order."""
         if self.group_list is None:
-            pieces = def_pieces(self.text, self.tree)
+            pieces = def_pieces(self.laid, self.tree)
             tops = self.kinds()
             self.group_list = [Group(defs, pieces, tops, self.judging) for defs in self.judging.groups]
         return self.group_list
 
 
-def def_pieces(text, tree):
+def def_pieces(laid_out, tree):
     """Tell a dict from the places of a tree's lines to their lexemes and marks, but for places."""
     begins = {line[1]: True for line in tree}
     told = {}
     pieces = []
-    for place, sort, word in laid(text):
+    for place, sort, word in laid_out:
         if sort != "mark" and place in begins:
             pieces = []
             told[place] = pieces
@@ -124,7 +130,7 @@ class Group:
         for _, name in free_names(defs):
             self.used[name] = tops[name]
         for maker in used_makers(defs):
-            self.used[maker] = maker_text(judging, maker)
+            self.used[maker] = judging.maker_text(maker)
 
     def is_same(self, other):
         """Tell whether nothing changed by which a group is looked at anew."""
@@ -140,12 +146,6 @@ def used_makers(defs):
         elif step[0] == "rule":
             told.extend([pattern[2] for pattern in all_patterns(step[2]) if pattern[0] == "made"])
     return told
-
-
-def maker_text(judging, maker):
-    """Tell the text of a maker's kind."""
-    parts, whole = judging.demanding.maker_kinds(maker)
-    return judging.text(judging.demanding.table.leading(parts, whole), {})
 
 
 def settled_groups(text, last):

@@ -211,14 +211,14 @@ def early_why(view, number, k):
         return "group"
     if part[0] in PLAIN:
         return "head"
-    told = asked_first(e, view.stands(), view.data)
+    told = asked_first(e, view.known_names(), view.data)
     return None if told is not None and told[0] == name else "first"
 
 
 def early_part(view, number, k):
     _, p, bindings, e = view.parts[number]
     name, part = bindings[0]
-    _, q = asked_first(e, view.stands(), view.data)
+    _, q = asked_first(e, view.known_names(), view.data)
     return ("early", p, name, part, q, e)
 
 

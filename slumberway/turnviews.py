@@ -105,7 +105,7 @@ class View:
         number = self.bound[name]
         return None if number == OPEN else self.parts[number]
 
-    def stands(self):
+    def known_names(self):
         """Tell a dict from names to the parts that they are bound to, or HEAD, as firsts has it."""
         if self.standing is None:
             self.standing = {name: self.parts[number] for name, number in self.bound.items() if number != OPEN}
