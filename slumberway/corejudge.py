@@ -4,7 +4,7 @@ A part is judged at one look; only where that finds something wrong is it looked
 judges tells None, or a list: the word of what is wrong, then the numbers that lead to it, the last one first.
 """
 
-from slumberway.coreforms import DEEDS, MOST_THINGS, is_name, is_number, is_part, is_place_number
+from slumberway.coreforms import DEEDS, MOST_THINGS, is_name, is_number, is_part, is_place_number, is_plain_name
 
 LONGEST_PATH = 200
 
@@ -12,7 +12,7 @@ LONGEST_PATH = 200
 class Judge:
     """Goes by the parts of tops, in order, up to the first wrong one."""
 
-    __slots__ = ("places", "data", "names", "count")
+    __slots__ = ("places", "data", "names", "many")
 
     def __init__(self, places, data, tops):
         self.places = places
@@ -20,20 +20,34 @@ class Judge:
         # All names bound so far, and the tops: whether they stand around the part that is gone by.
         self.names = {x: True for x, _ in tops}
         # How many parts there are so far, but tops' own.
-        self.count = 0
+        self.many = 0
 
     def wrong_in(self, part, left):
         """Tell what is wrong with a part, and all in it; its path may have so many numbers more."""
-        if not isinstance(part, tuple) or len(part) < 3 or left < 0:
+        if not isinstance(part, tuple) or left < 0:
+            return ["part"]
+        if len(part) == 3:
+            word, p, x = part
+            if isinstance(p, int) and (1 < p < self.places or is_place_number(p, self.places)):
+                if word == "name":
+                    if isinstance(x, str) and x in self.names and self.names[x]:
+                        return None
+                elif word == "num" and is_number(x) or word == "fault" and is_plain_name(x):
+                    return None
+            return self.fault(part)
+        if len(part) < 3:
             return ["part"]
         word = part[0]
         p = part[1]
         if not isinstance(p, int) or not (1 < p < self.places or is_place_number(p, self.places)):
             return ["part"]
-        if word == "name":
-            x = part[2]
-            if len(part) == 3 and isinstance(x, str) and x in self.names and self.names[x]:
-                return None
+        if word == "con":
+            if len(part) == 4:
+                _, _, maker, atoms = part
+                if isinstance(maker, str) and self.are_right(atoms):
+                    lot = self.data.get(maker)
+                    if isinstance(lot, tuple) and (maker, len(atoms)) in lot:
+                        return None
             return self.fault(part)
         if not isinstance(word, str) or word not in JUDGES:
             return ["part"]
@@ -93,11 +107,12 @@ class Judge:
             if not isinstance(names, tuple) or len(names) > MOST_THINGS:
                 return False
             if isinstance(what, str):
-                if not self.is_there(what, len(names)):
+                lot = self.data.get(what)
+                if not isinstance(lot, tuple) or (what, len(names)) not in lot:
                     return False
             elif not is_number(what) or names:
                 return False
-            if what in seen or not self.bind(names, False):
+            if what in seen or names and not self.bind(names, False):
                 return False
             seen[what] = True
         return True
@@ -112,19 +127,7 @@ def makers_of(part):
     return []
 
 
-# What is wrong with parts that are tuples of three things or more, with a word and a place.
-
-def num_wrong(judge, part, left):
-    return None if len(part) == 3 and is_number(part[2]) else ["part"]
-
-
-def con_wrong(judge, part, left):
-    if len(part) == 4 and isinstance(part[2], str):
-        atoms = part[3]
-        if judge.are_right(atoms) and judge.is_there(part[2], len(atoms)):
-            return None
-    return judge.fault(part)
-
+# What is wrong with parts that are tuples of four things or more, with a word and a place.
 
 def call_wrong(judge, part, left):
     if len(part) == 4 and part[3] and judge.are_right(part[3]):
@@ -146,7 +149,7 @@ def fun_wrong(judge, part, left):
     if wrong is not None:
         wrong.append(0)
         return wrong
-    judge.count += 1
+    judge.many += 1
     bound = judge.names
     for name in names:
         bound[name] = False
@@ -174,7 +177,7 @@ def let_wrong(judge, part, left):
             wrong.append(number)
             return wrong
         number += 1
-    judge.count += number
+    judge.many += number
     for name, _ in bindings:
         bound[name] = False
     return None
@@ -204,7 +207,7 @@ def case_wrong(judge, part, left):
             bound[name] = False
         number += 1
     bound[x] = False
-    judge.count += number
+    judge.many += number
     return None
 
 
@@ -219,12 +222,8 @@ def deed_wrong(judge, part, left):
     if wrong is not None:
         wrong.append(1)
         return wrong
-    judge.count += 2
+    judge.many += 2
     return None
-
-
-def fault_wrong(judge, part, left):
-    return None if is_part(part, judge.places) else ["part"]
 
 
 def early_wrong(judge, part, left):
@@ -240,7 +239,7 @@ def early_wrong(judge, part, left):
         wrong.append(1)
         return wrong
     judge.names[part[2]] = False
-    judge.count += 2
+    judge.many += 2
     return None
 
 
@@ -251,19 +250,16 @@ def now_wrong(judge, part, left):
     if wrong is not None:
         wrong.append(0)
         return wrong
-    judge.count += 1
+    judge.many += 1
     return None
 
 
 JUDGES = {
-    "num": num_wrong,
-    "con": con_wrong,
     "call": call_wrong,
     "fun": fun_wrong,
     "let": let_wrong,
     "case": case_wrong,
     "deed": deed_wrong,
-    "fault": fault_wrong,
     "early": early_wrong,
     "now": now_wrong,
 }

@@ -2,7 +2,7 @@
 
 from slumberway.coreforms import is_number, is_plain_name, is_whole
 from slumberway.corejudge import LONGEST_PATH, Judge
-from slumberway.coreparts import all_parts, asked_names, parts_within, scoped_within, with_parts
+from slumberway.coreparts import WITHIN, asked_names, parts_within, scoped_within, with_parts
 from slumberway.errors import NoAddress, NoProgram
 
 MOST_PARTS = 4000
@@ -14,8 +14,18 @@ FAR = 10 ** 6
 def addresses(program):
     """Tell the list of all addresses of a program."""
     refuse(program)
-    _, _, tops = program
-    return [(x, path) for x, e in tops for path, _ in all_parts(e)]
+    told = []
+    for x, e in program[2]:
+        add_addresses(x, e, (), told)
+    return told
+
+
+def add_addresses(x, part, path, told):
+    """Add the addresses of a part and all within it."""
+    told.append((x, path))
+    if part[0] in WITHIN:
+        for number, inner in enumerate(parts_within(part)):
+            add_addresses(x, inner, (*path, number), told)
 
 
 def part_at(program, address):
@@ -142,6 +152,6 @@ def parts_wrong(program, judge):
         wrong = judge.wrong_in(e, LONGEST_PATH)
         if wrong is not None:
             return (wrong[0], (x, tuple(wrong[:0:-1])))
-    if judge.count + len(tops) > MOST_PARTS or len(tops) > MOST_TOPS:
+    if judge.many + len(tops) > MOST_PARTS or len(tops) > MOST_TOPS:
         return ("great",)
     return None

@@ -9,6 +9,9 @@ from slumberway.corejudge import LONGEST_PATH
 from slumberway.cores import program_wrong, refuse
 from slumberway.errors import NoText
 
+# A word of more figures is no number of a core, by far.
+MOST_FIGURES = 900
+
 
 def core_text(program):
     """Tell a program's text, that read_core reads to just that program."""
@@ -121,11 +124,15 @@ class CoreReader:
 
     def places(self, many):
         """Tell the places of the next rows."""
-        words = " ".join(self.rows[self.row:self.row + many]).split(" ") if many else []
+        words = " ".join(self.rows[self.row:self.row + many]).replace("place ", "").split(" ") if many else []
         self.row += many
-        if len(words) != 3 * many or words[0::3] != ["place"] * many:
+        figures = "".join(words)
+        if len(words) != 2 * many or "" in words or many and not figures.isdecimal():
             raise NoText(self.row - 1, 0)
-        return [(self.number(row), self.number(column)) for row, column in zip(words[1::3], words[2::3])]
+        if len(figures) > MOST_FIGURES and max(map(len, words)) > MOST_FIGURES:
+            raise NoText(self.row - 1, 0)
+        numbers = list(map(int, words))
+        return list(zip(numbers[0::2], numbers[1::2]))
 
     def number(self, word):
         """Tell the number of a word of the row that was read last."""

@@ -3,7 +3,7 @@
 What a fun's part binds, all that is bound within and not below another fun, and what it keeps of what is around it,
 has each a spot of its own in one list, made anew at each call; a top's part has such a list, too. Rows, by their words:
 
-    ("rows", None, how many rows there are, how many places)
+    ("rows", None, how many rows there are, how many places, how many tops)
     ("begin", None, x, row, spots), of each top
     ("num", p, n)
     ("own", p, spot) and ("top", p, number): names, by what they stand for
@@ -32,7 +32,7 @@ def made_rows(program):
         scope = Scope(None, ())
         row = making.row_of(e, scope)
         begins.append(("begin", None, x, row, len(scope.spots)))
-    return [("rows", None, 1 + len(tops) + len(making.rows), len(places)), *begins, *making.rows]
+    return [("rows", None, making.ahead + len(making.rows), len(places), len(tops)), *begins, *making.rows]
 
 
 class Scope:

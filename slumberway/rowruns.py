@@ -19,7 +19,7 @@ class RowRun:
 
     def __init__(self, rows, most):
         self.rows = rows
-        _, _, _, places = rows[0]
+        _, _, _, places, tops = rows[0]
         self.gone = [0] * places
         self.made = [0] * places
         self.asked = [0] * places
@@ -27,7 +27,7 @@ class RowRun:
         self.left = most
         self.asks = 0
         self.pile = []
-        begins = [row for row in rows if row[0] == "begin"]
+        begins = rows[1:1 + tops]
         self.numbers = {x: number for number, (_, _, x, _, _) in enumerate(begins)}
         told = [(rows[number], number, [None] * spots) for _, _, _, number, spots in begins]
         self.tops = [thing_of(row, number, spots, None) for row, number, spots in told]
@@ -99,7 +99,7 @@ class RowRun:
                     return head
                 frame = pile.pop()
                 back = BACK[frame[0]]
-                row, spots = back(self, head, *frame[1:])
+                row, spots = back(self, head, frame)
                 if row is None:
                     head = spots
 
@@ -195,15 +195,18 @@ def begin_now(run, row, spots):
     return (run.rows[row[3]], spots)
 
 
-def back_call(run, head, row, spots):
+def back_call(run, head, frame):
+    _, row, spots = frame
     return run.give(head, run.stand(row[3:], spots), row[1])
 
 
-def back_give(run, head, p, things):
+def back_give(run, head, frame):
+    _, p, things = frame
     return run.give(head, things, p)
 
 
-def back_case(run, head, row, spots):
+def back_case(run, head, frame):
+    _, row, spots = frame
     _, p, _, spot, other = row[:5]
     if head[0] == "fun":
         raise RunEnd(run.fault("kind", p))
@@ -219,13 +222,14 @@ def back_case(run, head, row, spots):
     return (run.rows[other], spots)
 
 
-def back_deed(run, head, row, spots):
+def back_deed(run, head, frame):
+    _, row, spots = frame
     run.pile.append(("second", row, head))
     return (run.rows[row[4]], spots)
 
 
-def back_second(run, head, row, one):
-    _, p, word, _, _ = row
+def back_second(run, head, frame):
+    _, (_, p, word, _, _), one = frame
     if one[0] != "num" or head[0] != "num":
         raise RunEnd(run.fault("kind", p))
     told = worked(word, one[2], head[2])
@@ -236,19 +240,20 @@ def back_second(run, head, row, one):
     return (None, ("num", p, told))
 
 
-def back_ask(run, head, p, cell):
+def back_ask(run, head, frame):
     run.asks -= 1
-    cell[0] = head
+    frame[2][0] = head
     return (None, head)
 
 
-def back_early(run, head, row, spots):
+def back_early(run, head, frame):
+    _, row, spots = frame
     run.asks -= 1
     spots[row[2]] = head
     return (run.rows[row[5]], spots)
 
 
-def back_now(run, head, row):
+def back_now(run, head, frame):
     run.asks -= 1
     return (None, head)
 

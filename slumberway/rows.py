@@ -17,7 +17,7 @@ def rows_of(program):
 
 def by_rows(rows, x, *, depth=20, most=MOST):
     """Tell the answer of a top, asked by rows, and what it costs."""
-    refuse_asked([row[2] for row in rows if row[0] == "begin"], x, depth, most)
+    refuse_asked([row[2] for row in rows[1:1 + rows[0][4]]], x, depth, most)
     return ran(RowRun(rows, most), x, depth)
 
 
@@ -45,7 +45,7 @@ def read_rows(text):
     """Tell the rows of such a text; NoText of a text with a line left out."""
     rows = [read_row(number, line) for number, line in enumerate(text.split("\n"))]
     # The first row tells how many there are.
-    if rows[0][0] != "rows" or len(rows[0]) != 4 or rows[0][2] != len(rows):
+    if rows[0][0] != "rows" or len(rows[0]) != 5 or rows[0][2] != len(rows):
         raise NoText(0, 0)
     return rows
 
