@@ -31,31 +31,33 @@ def lexemes(text):
             row = row[:row.find(REMARK)]
         column = 1
         for piece in row.split(" "):
-            if piece:
-                sort = sorts.get(piece)
-                if sort is None:
-                    told.extend(piece_lexemes(number, column, piece, sorts))
-                else:
-                    told.append(((number, column), sort, piece))
+            if piece in sorts:
+                told.append(((number, column), sorts[piece], piece))
+            elif piece:
+                add_lexemes(told, number, column, piece, sorts)
             column += len(piece) + 1
     return told
 
 
-def piece_lexemes(number, column, piece, sorts):
-    """Tell the lexemes of what stands between two blanks."""
-    inner = piece.lstrip("(")
-    begin = column + len(piece) - len(inner)
-    told = [((number, at), "sign", "(") for at in range(column, begin)]
-    inner = inner.rstrip(")")
-    if inner:
-        sort = sorts.get(inner) or sort_of(inner)
+def add_lexemes(told, number, column, piece, sorts):
+    """Add the lexemes of what stands between two blanks."""
+    end = column + len(piece)
+    piece = piece.lstrip("(")
+    while column + len(piece) < end:
+        told.append(((number, column), "sign", "("))
+        column += 1
+    piece = piece.rstrip(")")
+    if piece:
+        sort = sorts.get(piece) or sort_of(piece)
         if sort is None:
-            told.extend(mixed_lexemes(number, begin, inner))
+            told.extend(mixed_lexemes(number, column, piece))
         else:
-            sorts[inner] = sort
-            told.append(((number, begin), sort, inner))
-    told.extend([((number, at), "sign", ")") for at in range(begin + len(inner), column + len(piece))])
-    return told
+            sorts[piece] = sort
+            told.append(((number, column), sort, piece))
+        column += len(piece)
+    while column < end:
+        told.append(((number, column), "sign", ")"))
+        column += 1
 
 
 def mixed_lexemes(number, column, piece):
@@ -119,18 +121,22 @@ def sign_end(number, column, piece, at):
 
 def laid(text):
     """Tell the lexemes of a text with the marks among them; NoSign as lexemes."""
-    told = lexemes(text)
+    found = lexemes(text)
     layout = Layout()
+    told = layout.told
     row = 0
-    for lexeme in told:
+    # The row in which the next lexeme lays no mark, but where it is of those that do; none behind let and of.
+    quiet = 0
+    for lexeme in found:
         (number, _), _, word = lexeme
-        if number == row and word not in LAYING and not layout.awaits_block:
-            layout.told.append(lexeme)
+        if number == quiet and word not in LAYING:
+            told.append(lexeme)
         else:
             layout.take(lexeme, number > row)
             row = number
-    layout.finish(end_place(told))
-    return layout.told
+            quiet = 0 if layout.awaits_block else number
+    layout.finish(end_place(found))
+    return told
 
 
 def end_place(told):

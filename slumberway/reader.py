@@ -4,6 +4,7 @@ from slumberway.building import ACTS, CLOSERS, joined
 from slumberway.errors import NoReading
 from slumberway.grammar import STEPS
 from slumberway.lexemes import end_place, laid
+from slumberway.quickreader import OddText, QuickReader
 
 
 def tree_of(text):
@@ -13,6 +14,14 @@ def tree_of(text):
 
 def tree_of_laid(told):
     """Tell the tree of a text's lexemes and marks."""
+    try:
+        return QuickReader(told).tree()
+    except OddText:
+        return tree_by_table(told)
+
+
+def tree_by_table(told):
+    """Tell the tree, by the table of the grammar."""
     reading = Reading()
     for lexeme in told:
         _, sort, word = lexeme
