@@ -44,7 +44,7 @@ class Scope:
         # The names of what is kept of what is around.
         self.kept = []
 
-    def add(self, name):
+    def add_name(self, name):
         """Give a name a spot."""
         self.spots[name] = len(self.spots)
         return self.spots[name]
@@ -56,7 +56,7 @@ class Scope:
             scopes.append(scopes[-1].outer)
         for scope in scopes[-2::-1]:
             scope.kept.append(name)
-            scope.add(name)
+            scope.add_name(name)
         return self.spots[name]
 
 
@@ -88,7 +88,7 @@ class Making:
                 inside = Scope(scope, part[2])
             else:
                 for name in bound_names(part):
-                    scope.add(name)
+                    scope.add_name(name)
             pile.append((part, inside, True))
             pile.extend([(one, inside, False) for one in inner[::-1]])
         return done[0]

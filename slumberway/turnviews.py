@@ -33,9 +33,9 @@ class View:
         for x, e in self.tops:
             self.begins.append(len(self.parts))
             self.bound[x] = len(self.parts)
-            self.add(e, None, 0)
+            self.add_part(e, None, 0)
 
-    def add(self, part, edge, deep):
+    def add_part(self, part, edge, deep):
         """Add a part and all within it."""
         number = len(self.parts)
         self.parts.append(part)
@@ -127,7 +127,7 @@ def add_call(view, part, number, edge, deep):
 def add_fun(view, part, number, edge, deep):
     for name in part[2]:
         view.bound[name] = OPEN
-    view.add(part[3], number, deep)
+    view.add_part(part[3], number, deep)
 
 
 def add_let(view, part, number, edge, deep):
@@ -135,8 +135,8 @@ def add_let(view, part, number, edge, deep):
     for name, e in part[2]:
         at = len(view.parts)
         view.bound[name] = at
-        view.add(e, at, deep)
-    view.add(part[3], edge, deep)
+        view.add_part(e, at, deep)
+    view.add_part(part[3], edge, deep)
 
 
 def add_case(view, part, number, edge, deep):
@@ -144,25 +144,25 @@ def add_case(view, part, number, edge, deep):
     view.found["case"].append(number)
     view.bound[x] = OPEN
     view.heads[x] = number
-    view.add(e, edge, deep)
+    view.add_part(e, edge, deep)
     for _, names, inner in alternatives:
         for name in names:
             view.bound[name] = OPEN
-        view.add(inner, edge, deep)
+        view.add_part(inner, edge, deep)
     if other is not None:
-        view.add(other, edge, deep)
+        view.add_part(other, edge, deep)
 
 
 def add_early(view, part, number, edge, deep):
     view.bound[part[2]] = OPEN
     view.heads[part[2]] = number
-    view.add(part[3], edge, deep)
-    view.add(part[5], edge, deep)
+    view.add_part(part[3], edge, deep)
+    view.add_part(part[5], edge, deep)
 
 
 def add_others(view, part, number, edge, deep):
     for inner in parts_within(part):
-        view.add(inner, edge, deep)
+        view.add_part(inner, edge, deep)
 
 
 ADDERS = {
