@@ -26,7 +26,7 @@ from slumberway.coreparts import bound_names, parts_within
 def made_rows(program):
     """Tell the list of a program's rows."""
     places, _, tops = program
-    making = Making([x for x, _ in tops])
+    making = RowMaking([x for x, _ in tops])
     begins = []
     for x, e in tops:
         scope = Scope(None, ())
@@ -60,7 +60,7 @@ class Scope:
         return self.spots[name]
 
 
-class Making:
+class RowMaking:
     """The rows so far."""
 
     def __init__(self, tops):

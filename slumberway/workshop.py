@@ -12,6 +12,8 @@ MOST_ROWS = 120
 LONGEST_ROW = 100
 NOTHING = (0, 0, 0)
 WAYS = ("name", "shared", "rows")
+# Behind so many deeds a state fades.
+KEPT = 8
 
 
 class State:
@@ -23,8 +25,10 @@ class State:
         self.sums = sums
         # The state ahead of the last deed.
         self.ahead = ahead
-        # The rows as they were looked at, and the last whole text ahead, None of none: where these were asked for.
+        # The rows as they were looked at, and whether they are a whole text: None where that wasn't asked for.
         self.looked = None
+        self.wholeness = None
+        # The last whole text ahead, None of none, where it was asked for.
         self.is_led = False
         self.last = None
 
@@ -32,6 +36,17 @@ class State:
         if self.looked is None:
             self.looked = Text(list(self.lines))
         return self.looked
+
+    def is_whole(self):
+        if self.wholeness is None:
+            self.wholeness = self.text().refused is None
+        return self.wholeness
+
+    def fade(self):
+        """Let go of what may be found again, so that long rows of deeds don't keep all of it."""
+        self.looked = None
+        self.is_led = False
+        self.last = None
 
     def last_whole(self):
         """Tell the last text ahead of this one that isn't refused; None where there is none."""
@@ -41,9 +56,8 @@ class State:
             passed.append(state)
             if state.ahead is None:
                 break
-            told = state.ahead.text()
-            if told.refused is None:
-                state.last = told
+            if state.ahead.is_whole():
+                state.last = state.ahead.text()
                 break
             state = state.ahead
         for one in passed:
@@ -58,6 +72,16 @@ class Workshop:
     def __init__(self):
         self.state = State([], [], None)
 
+    def begin(self, lines, sums):
+        """Go on with other rows."""
+        self.state = State(lines, sums, self.state)
+        state = self.state
+        for _ in range(KEPT):
+            if state.ahead is None:
+                return
+            state = state.ahead
+        state.fade()
+
     def put(self, at, row):
         """Put a row in ahead of another one, or behind all; NoPlace, BadRow, TooMany."""
         lines = list(self.state.lines)
@@ -68,7 +92,7 @@ class Workshop:
         sums = list(self.state.sums)
         lines.insert(at - 1, row)
         sums.insert(at - 1, NOTHING)
-        self.state = State(lines, sums, self.state)
+        self.begin(lines, sums)
 
     def cut(self, at):
         """Take a row away; NoPlace."""
@@ -77,7 +101,7 @@ class Workshop:
         sums = list(self.state.sums)
         lines.pop(at - 1)
         sums.pop(at - 1)
-        self.state = State(lines, sums, self.state)
+        self.begin(lines, sums)
 
     def change(self, at, row):
         """Put another row in the stead of one; NoPlace, BadRow."""
@@ -87,7 +111,7 @@ class Workshop:
         sums = list(self.state.sums)
         lines[at - 1] = row
         sums[at - 1] = NOTHING
-        self.state = State(lines, sums, self.state)
+        self.begin(lines, sums)
 
     def back(self):
         """Take the last put, cut or change back; NoBack where there is none."""
@@ -140,7 +164,7 @@ class Workshop:
     def settled(self):
         """Tell the groups, lists of names, that were looked at anew behind the last deed."""
         state = self.state
-        if state.ahead is None or state.text().refused is not None:
+        if state.ahead is None or not state.is_whole():
             return []
         return settled_groups(state.text(), state.last_whole())
 

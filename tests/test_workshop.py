@@ -540,6 +540,31 @@ class Drawn(unittest.TestCase):
             self.session(seed, self.POOL, [LIST, "a = 1", "b = a", "c x = x", "d = Cons a Nil"], 20)
         self.assertGreater(self.seen, 300)
 
+    def test_all_the_way_back_and_forth_again(self):
+        for seed in range(25):
+            chance = random.Random(seed)
+            one = made([LIST, "a = 1", "b = a", "c x = x", "d = Cons a Nil"])
+            told = []
+            for _ in range(30):
+                before = self.snapshot(one)
+                if self.deed(chance, one, self.POOL):
+                    told.append(before)
+                    if one.fault() is None and chance.random() < 0.5:
+                        for x in sorted(one.kinds())[:2]:
+                            one.ask(x, most=50)
+            for before in told[:3:-1]:
+                one.back()
+                self.assertEqual(self.snapshot(one), before)
+            rows = one.rows()
+            one.put(1, "")
+            if refused(rows) is None:
+                self.assertEqual(one.settled(), [])
+            one.back()
+            self.assertEqual(one.rows(), rows)
+            for before in told[3::-1]:
+                one.back()
+                self.assertEqual(self.snapshot(one), before)
+
     def test_grown_texts(self):
         self.seen = 0
         for seed in range(60):
