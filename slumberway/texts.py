@@ -36,22 +36,22 @@ class Text:
             self.laid = laid(self.text)
             self.tree = tree_of_laid(self.laid)
             self.judging = judged(self.tree, False)
-        except NoSign as error:
-            return ("NoSign", error.place)
-        except NoReading as error:
-            return ("NoReading", error.place, error.wants)
-        except Twice as error:
-            return ("Twice", error.later, error.earlier)
-        except Counts as error:
-            return ("Counts", error.place)
-        except Parts as error:
-            return ("Parts", error.place)
-        except Unknown as error:
-            return ("Unknown", error.place, error.word)
-        except Clash as error:
-            return ("Clash", error.place, error.one, error.other)
-        except Endless as error:
-            return ("Endless", error.place, error.one, error.other)
+        except NoSign as no_sign:
+            return ("NoSign", no_sign.place)
+        except NoReading as no_reading:
+            return ("NoReading", no_reading.place, no_reading.wants)
+        except Twice as twice:
+            return ("Twice", twice.later, twice.earlier)
+        except Counts as counts:
+            return ("Counts", counts.place)
+        except Parts as parts:
+            return ("Parts", parts.place)
+        except Unknown as unknown:
+            return ("Unknown", unknown.place, unknown.word)
+        except Clash as clash:
+            return ("Clash", clash.place, clash.one, clash.other)
+        except Endless as endless:
+            return ("Endless", endless.place, endless.one, endless.other)
         return None
 
     def fault(self):
